@@ -1,0 +1,1 @@
+"""Warmsteps: steps that are exchanged while they run, decided for all programs."""
