@@ -15,7 +15,8 @@ BUILTINS = (
 METHODS = (
     "append clear copy count endswith extend find get index insert isalnum isalpha isdigit islower isspace isupper "
     "items join keys ljust lower lstrip partition pop remove replace reverse rfind rjust rpartition rsplit rstrip "
-    "setdefault split splitlines startswith strip update upper values zfill bit_length add discard appendleft popleft __init__"
+    "setdefault split splitlines startswith strip update upper values zfill bit_length add discard appendleft popleft "
+    "__init__"
 ).split()
 BARRED = ("type", "typing", "enum", "Enum", "Generic", "Protocol", "ABC", "namedtuple", "NamedTuple", "TypedDict",
           "abstractmethod", "register", "mro", "elements", "eval", "exec", "globals", "locals", "vars", "Meta")
