@@ -66,3 +66,51 @@ def two_cells(*, closed=False):
         (2, "one"): (("out",),),
     }
     return Rules(LOOK_ADD, courses, closed=closed)
+
+
+def ladder(many):
+    """Rules for a look that go wrong by so many hands, 2 to 6, and by no fewer, with any number of shapes.
+
+    A hand that comes to a word makes it the next one, and makes it the first one again before it goes out; so the
+    last word, at which a hand goes wrong, is there only while all the others are inside.
+    """
+    words = ("plain", "a", "b", "c", "d", "e")[:many]
+    courses = {(1, words[-1]): (("do", 1), ("do", 1), ("out",))}
+    for word, new in zip(words, words[1:]):
+        courses[(1, word)] = (("do", 1), ("claim", 1, word, new, OUT), ("word", 1, "plain"), ("out",))
+    return Rules(LOOK, courses)
+
+
+def queue():
+    """Rules for a look that are right for any number of hands: the ladder of two without what goes wrong."""
+    return Rules(LOOK, {(1, "plain"): (("do", 1), ("claim", 1, "plain", "a", OUT), ("word", 1, "plain"), ("out",)),
+                        (1, "a"): (("do", 1), ("claim", 1, "a", "b", OUT), ("word", 1, "plain"), ("out",)),
+                        (1, "b"): LATE})
+
+
+def fused(*, closed):
+    """Rules for an add and a tell whose first cell does both; right if closed, else the second cell is skipped."""
+    both = (("do", 1), ("do", 2), ("on",))
+    return Rules(ADD_TELL, {(1, "plain"): (("do", 1), ("do", 2), ("word", 2, "skip"), ("word", 1, "both"), ("out",)),
+                            (1, "both"): both, (2, "plain"): (("do", 2), ("out",)), (2, "skip"): OUT}, closed=closed)
+
+
+def given_up(*, words=4):
+    """Rules for a look that are right: the first other shape that comes makes the cell one that only looks."""
+    late = (("claim", 1, "sure", "mega", LATE), ("wipe", "key"), ("do", 1), ("out",))
+    courses = {(1, "plain"): (("claim", 1, "plain", "busy", LATE), ("do", 1), ("set", "note"), ("set", "key"),
+                              ("word", 1, "sure"), ("out",)),
+               (1, "busy"): LATE, (1, "sure"): (("key", late), ("note",), ("trust",), ("out",)), (1, "mega"): LATE}
+    for word in ("more", "most")[:words - 4]:
+        courses[(1, word)] = LATE
+    return Rules(LOOK, courses)
+
+
+def reread():
+    """Rules for a look that are wrong: readers ask for the key again, but it may have come back meanwhile."""
+    again = (("claim", 1, "sure", "busy", LATE), ("wipe", "key"), ("do", 1), ("set", "note"), ("set", "key"),
+             ("word", 1, "sure"), ("out",))
+    return Rules(LOOK, {(1, "plain"): (("claim", 1, "plain", "busy", LATE), ("do", 1), ("set", "note"),
+                                       ("set", "key"), ("word", 1, "sure"), ("out",)),
+                        (1, "busy"): LATE, (1, "sure"): (("key", again), ("note",), ("key", LATE), ("trust",),
+                                                         ("out",))})

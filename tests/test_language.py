@@ -103,6 +103,45 @@ class LanguageTest(unittest.TestCase):
                 name = node.arg if isinstance(node, ast.arg) else name
                 self.assertNotIn(name, dir(__builtins__) if not isinstance(__builtins__, dict) else __builtins__, path)
 
+    def test_imports_and_classes_keep_their_names(self):
+        for path, _, tree in trees():
+            kept = {node.name for node in tree.body if isinstance(node, ast.ClassDef)}
+            for node in tree.body:
+                if isinstance(node, ast.ImportFrom):
+                    kept.update(name.asname or name.name for name in node.names)
+            for node in ast.walk(tree):
+                if isinstance(node, ast.arg):
+                    self.assertNotIn(node.arg, kept, path)
+                if isinstance(node, ast.Name) and isinstance(node.ctx, ast.Store):
+                    self.assertNotIn(node.id, kept, path)
+
+    def test_no_two_files_import_from_each_other(self):
+        imported = {}
+        for path, _, tree in trees():
+            froms = [node.module.split(".")[-1] for node in tree.body if isinstance(node, ast.ImportFrom)]
+            imported[path.stem] = [name for name in froms if (PACKAGE / f"{name}.py").exists()]
+        while imported:
+            ends = [name for name in imported if not any(other in imported for other in imported[name])]
+            self.assertTrue(ends, imported)
+            for name in ends:
+                del imported[name]
+
+    def test_properties_and_methods_are_no_attributes(self):
+        properties, assigned = {}, {}
+        for path, _, tree in trees():
+            for node in ast.walk(tree):
+                if isinstance(node, ast.ClassDef):
+                    methods = [part for part in node.body if isinstance(part, ast.FunctionDef)]
+                    own = {part.attr for part in ast.walk(node)
+                           if isinstance(part, ast.Attribute) and isinstance(part.ctx, ast.Store)}
+                    self.assertFalse(own & {method.name for method in methods}, (path, node.name))
+                    for method in methods:
+                        if any(getattr(mark, "id", "") == "property" for mark in method.decorator_list):
+                            properties[method.name] = node.name
+                if isinstance(node, ast.Attribute) and isinstance(node.ctx, ast.Store):
+                    assigned[node.attr] = path
+        self.assertFalse(set(properties) & set(assigned))
+
     def test_what_goes_through_all_takes_a_list(self):
         for path, _, tree in trees():
             for node in ast.walk(tree):

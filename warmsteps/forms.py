@@ -11,6 +11,8 @@ MOST_WORDS = 6
 MOST_MOVES = 40
 LONGEST_COURSE = 12
 DEEPEST_COURSE = 2
+# Each course and each move in it is a tuple in a tuple.
+DEEPEST_REST = 2 * (DEEPEST_COURSE + 1)
 MOST_SHAPES = 3
 
 HALVES = ("key", "note")
@@ -84,6 +86,13 @@ def alike(value, form):
     if not isinstance(value, tuple) or len(value) != len(form):
         return False
     return all([alike(part, other) for part, other in zip(value, form)])
+
+
+def is_plain(value, deep):
+    """Whether any value is made of tuples, so deep at most, and of strings and integers."""
+    if isinstance(value, tuple):
+        return deep > 0 and all([is_plain(part, deep - 1) for part in value])
+    return isinstance(value, str) or is_integer(value)
 
 
 def are_keyed(pattern, value):

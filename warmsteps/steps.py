@@ -1,7 +1,7 @@
 """Stage 3: standings, states and rows, and the single moves of hands."""
 
 from warmsteps.errors import GoneWrong
-from warmsteps.forms import ACTS, CHECKS, ENDS, alike, cells_of, is_cell, is_integer, looks
+from warmsteps.forms import ACTS, CHECKS, DEEPEST_REST, ENDS, alike, cells_of, is_cell, is_integer, is_plain, looks
 from warmsteps.forms import need_shapes, other_of, rests_in
 
 KEY = 2
@@ -35,12 +35,16 @@ def is_state(rules, shapes, value):
 def is_row(rules, shapes, value):
     """Whether any value has the form of a row."""
     need_shapes(shapes)
+    return has_row_form(rules, shapes, rests_of(rules), value)
+
+
+def has_row_form(rules, shapes, rests, value):
+    """Whether any value has the form of a row with these rests."""
     if not isinstance(value, tuple) or len(value) != 3:
         return False
     standing, many, few = value
     if not is_standing(rules, shapes, standing) or not isinstance(many, tuple) or not isinstance(few, tuple):
         return False
-    rests = rests_of(rules)
     for state in (*many, *few):
         if not has_state_form(rules.pattern, shapes, rests, state):
             return False
@@ -49,6 +53,15 @@ def is_row(rules, shapes, value):
     if not all([few[at] <= few[at + 1] for at in range(len(few) - 1)]):
         return False
     return not any([state in many for state in few])
+
+
+def are_rows(rules, shapes, value):
+    """Whether any value is a list of what has the form of rows."""
+    need_shapes(shapes)
+    if not isinstance(value, list):
+        return False
+    rests = rests_of(rules)
+    return all([has_row_form(rules, shapes, rests, row) for row in value])
 
 
 def most_left(rules, state):
@@ -63,13 +76,16 @@ def most_left(rules, state):
 def arrivals(rules, shapes, standing):
     """The ascending list of the different states in which a hand can be when it has come."""
     need_shapes(shapes)
-    owed = cells_of(rules.pattern)
     owns = list(range(1, shapes + 1)) if looks(rules.pattern) else [0]
-    course = rules.course(1, standing[0])
-    found = [(1, course, own, 0, owed) for own in owns]
-    if len(owed) == 2 and not rules.closed:
-        found.append((2, rules.course(2, standing[1]), 0, 0, owed[1:]))
+    found = [arrived(rules, standing, 1, own) for own in owns]
+    if len(rules.pattern) == 2 and not rules.closed:
+        found.append(arrived(rules, standing, 2, 0))
     return found
+
+
+def arrived(rules, standing, cell, own):
+    """The state of a hand that has come to this cell with this own shape."""
+    return (cell, rules.course(cell, standing[cell - 1]), own, 0, cells_of(rules.pattern)[cell - 1:])
 
 
 def stepped(rules, standing, state):
@@ -113,12 +129,13 @@ def is_word_of(rules, cell, value):
 
 
 def rests_of(rules):
-    """The dict from each cell to the list of the rests that hands at this cell can have."""
+    """The dict from each cell to a dict whose keys are the rests that hands at this cell can have."""
     rests = {}
     for cell in cells_of(rules.pattern):
-        rests[cell] = [()] if cell == 2 else []
+        found = [()] if cell == 2 else []
         for word in rules.words(cell):
-            rests[cell].extend(rests_in(rules.course(cell, word)))
+            found.extend(rests_in(rules.course(cell, word)))
+        rests[cell] = {rest: True for rest in found}
     return rests
 
 
@@ -134,7 +151,8 @@ def has_state_form(pattern, shapes, rests, value):
     cells = cells_of(pattern)
     if not any([alike(owed, cells[at:]) for at in range(len(cells) + 1)]):
         return False
-    return any([alike(rest, form) for form in rests[cell]])
+    # What is not plain may not be looked up: it may have no hash, or be equal to a rest that it is not.
+    return isinstance(rest, tuple) and is_plain(rest, DEEPEST_REST) and rest in rests[cell]
 
 
 def most_in(rest, second):
