@@ -114,3 +114,16 @@ def reread():
                                        ("set", "key"), ("word", 1, "sure"), ("out",)),
                         (1, "busy"): LATE, (1, "sure"): (("key", again), ("note",), ("key", LATE), ("trust",),
                                                          ("out",))})
+
+
+def hoard():
+    """Rules for a look that go wrong by hands that wait behind a claim, of which there can be more and more.
+
+    Two of those are needed behind the word "b", and none comes to wait there any more; a third hand writes the words
+    between.
+    """
+    waiting = (("claim", 1, "c", "d", LATE), ("do", 1), ("out",))
+    return Rules(LOOK, {(1, "plain"): (("claim", 1, "plain", "a", LATE), ("claim", 1, "b", "c", waiting), ("do", 1),
+                                       ("out",)),
+                        (1, "a"): (("do", 1), ("word", 1, "plain"), ("word", 1, "b"), ("out",)),
+                        (1, "b"): LATE, (1, "c"): LATE, (1, "d"): (("do", 1), ("do", 1), ("out",))})

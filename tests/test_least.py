@@ -103,6 +103,20 @@ class LeastTest(unittest.TestCase):
                 found[hands_of(few[0])] = found.get(hands_of(few[0]), 0) + 1
         self.assertGreater(min(found[1], found[2]), 15)
 
+    def test_a_hand_goes_on_freely_though_another_could_come_instead(self):
+        """Behind four events hand 0 has gone on by itself, which Python orders ahead of all weavings where it waits."""
+        late = (("word", 1, "d"), ("word", 2, "plain"), ("do", 1), ("on",))
+        rules = Rules(("add", "tell"), {
+            (1, "plain"): (("word", 2, "a"), ("word", 1, "c"), ("do", 1), ("on",)),
+            (1, "a"): (("claim", 2, "a", "a", late), ("do", 1), ("on",)),
+            (1, "c"): (("word", 2, "plain"), ("word", 1, "a"), ("do", 1), ("on",)),
+            (1, "d"): (("do", 1), ("do", 1), ("on",)),
+            (2, "plain"): (("do", 2), ("out",)), (2, "a"): (("word", 1, "plain"), ("do", 2), ("out",))})
+        expected = [(0, 1, 0), (0,), (0,), (0,), (0,), (1, 1, 0), (1,), (0,), (0,), (0,), (1,), (0, 1, 0), (0,), (0,),
+                    (2, 1, 0), (2,), (2,)]
+        self.assertEqual(shortest(rules, 1, 3), expected)
+        self.assertEqual(plain.search(rules, 1, 3), expected)
+
     def test_three_hands_against_a_plain_search(self):
         for rules in (ladder(3), ladder(4), with_course(LOOK, (1, "plain"), OUT), fused(closed=False), queue()):
             self.assertEqual(shortest(rules, 1, 3), plain.search(rules, 1, 3))

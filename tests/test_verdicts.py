@@ -2,6 +2,7 @@
 
 import random
 import unittest
+from unittest import mock
 
 from tests import plain
 from tests.large import many_rows, right_look, right_two_cells, wrong_by_four
@@ -9,6 +10,7 @@ from tests.making import made
 from tests.samples import (ADD_TELL, LATE, LOOK, LOOK_ADD, OUT, fused, given_up, ladder, odd_values, queue, reread,
                            two_cells, with_course, with_part)
 from warmsteps.errors import BadShapes
+from warmsteps.least import least_weaving
 from warmsteps.rules import Rules
 from warmsteps.steps import arrivals, beginning, is_row
 from warmsteps.verdicts import is_rows, is_weaving, verdict
@@ -146,6 +148,15 @@ class VerdictTest(unittest.TestCase):
 
     def test_thousands_of_rows(self):
         self.assertEqual(self.check(many_rows(), 3), "right")
+
+    def test_weavings_that_are_too_long_for_the_first_search(self):
+        with mock.patch("warmsteps.verdicts.MANY_EVENTS", 0):
+            for many in (2, 3, 4):
+                self.assertEqual(verdict(ladder(many), 2), ("wrong", least_weaving(ladder(many), 2)))
+            for many in (5, 6):
+                self.assertEqual(self.check(ladder(many), 2), "wrong")
+            for rules in (Rules.careful(), given_up(), queue(), right_look()):
+                self.assertEqual(self.check(rules, 2), "right")
 
     def test_shapes_are_judged(self):
         rules = Rules.hasty()

@@ -104,6 +104,8 @@ class Search:
                 self._writers.setdefault((change, doing), []).append(source)
             if doing and change == UNCHANGED and found == self._standings.whole and source != OUTSIDE:
                 self._freely_from[target].append(source)
+        # By class: how many free moves are next.
+        self._free = free_moves(self._freely_from)
         # By class: whether hands come to it by such moves only. The last one of these can stand behind what others do
         # meanwhile, so such classes stand in no need: they are taken back at once.
         self._late = [number != OUTSIDE and len(self._freely_from[number]) == len(self._moves_to[number])
@@ -134,15 +136,21 @@ class Search:
         return shortest
 
     def reaches(self, one, inside, left):
-        """Whether hands in these classes, all there are, go wrong by at most so many events from one standing."""
-        needs = {((), 0): True}
+        """Whether hands in these classes, all there are, go wrong by at most so many events from one standing.
+
+        Some may be ahead of what is needed by free moves: these are done already.
+        """
+        needs = {(): 0}
         for number in inside:
-            ahead = self._ahead_of(number)
-            for need, done in list(needs):
-                for source, moves in ahead:
-                    needs[((*need, source), done + moves)] = True
-        for need, done in needs:
-            if self._known_of(tuple(sorted(need)), left + done) & one:
+            longer = {}
+            for source, moves in self._ahead_of(number):
+                for need in needs:
+                    more = tuple(sorted((*need, source)))
+                    longer[more] = max(longer.get(more, 0), needs[need] + moves)
+            for need in longer:
+                needs[need] = max(needs.get(need, 0), longer[need])
+        for need in needs:
+            if self._known_of(need, left + needs[need]) & one:
                 return True
         return False
 
@@ -161,11 +169,22 @@ class Search:
         return known
 
     def _known(self, need, left):
-        """The standings of which it is found that they need no more than this, and so many events."""
+        """The standings of which it is found that they need no more than this, and so many events.
+
+        A hand that is not needed might be ahead by its next free moves, so these must be won by doing without it.
+        """
         known = 0
-        for part in parts_of(need):
-            known = known | self._known_of(part, left)
+        for part, saved in self._parts_of(need):
+            known = known | self._known_of(part, left - saved)
         return known
+
+    def _parts_of(self, need):
+        """The list of tuples of a part of a need that is not empty and the free moves of those left out."""
+        parts = [((), 0)]
+        for number in need:
+            kept = [((*part, number), saved) for part, saved in parts]
+            parts = [(part, saved + self._free[number]) for part, saved in parts] + kept
+        return parts[1:]
 
     def _put(self, need, found, left):
         """Take what goes wrong by so many events, or what leads to it by moves that can be the last ones."""
@@ -205,6 +224,18 @@ class Search:
                 self._put(tuple(sorted((*others, source))), ahead, left + 1)
 
 
+def free_moves(freely_from):
+    """By class, how many moves that depend on nothing and write nothing a hand does next, one after the other."""
+    free = [0] * len(freely_from)
+    before = []
+    while free != before:
+        before = list(free)
+        for target, sources in enumerate(freely_from):
+            for source in sources:
+                free[source] = 1 + free[target]
+    return free
+
+
 def depths(classes, met):
     """By class, the fewest events by which a hand from outside comes to it, None if it never does."""
     depth = [None] * classes.many
@@ -218,14 +249,6 @@ def depths(classes, met):
                 behind.append(target)
         level = behind
     return depth
-
-
-def parts_of(need):
-    """The list of all parts of a need that are not empty, some perhaps more than once."""
-    parts = [()]
-    for number in need:
-        parts = parts + [(*part, number) for part in parts]
-    return parts[1:]
 
 
 def least_of(classes, hands):

@@ -125,7 +125,8 @@ class Net:
 
     def claims(self, number):
         """Whether the next move of a hand in this state is a claim."""
-        return self.states[number][1][:1] != () and self.states[number][1][0][0] == "claim"
+        rest = self.states[number][1]
+        return rest != () and rest[0][0] == "claim"
 
     def claimed(self):
         """The list of the states behind claims that held and changed the standing."""
@@ -139,7 +140,8 @@ class Net:
         """What a next move can do: a dict from tuples (change, state behind) to the standings in which it does this."""
         if self._ways[number] is None:
             ways = {}
-            for found, change, state in self._coming() if number == OUTSIDE else self._moving(number):
+            moves = self._coming() if number == OUTSIDE else self._moving(number)
+            for found, change, state in moves:
                 key = (change, self.number(state))
                 ways[key] = ways.get(key, 0) | found
             self._ways[number] = ways
