@@ -2,6 +2,7 @@
 
 from warmsteps.errors import NoPlace
 from warmsteps.rules import Rules
+from warmsteps.sites import Site
 
 LOOK = ("look",)
 LOOK_ADD = ("look", "add")
@@ -32,7 +33,7 @@ def odd_values():
         None, True, False, -1, 4, 10**59, -(10**59), "", " ", "Plain", "plain ", "\n", "do", "x" * 500,
         (None,), (True,), (1, 1), ((),), ("plain",), [], [1], ["look"], [("out",)], [()], {}, {1: 2}, {"look": ()},
         {(1, "plain"): [("out",)]}, deep(tuple, 30), deep(list, 30), wide(30), Rules.careful(), Rules.plain(LOOK),
-        (Rules.hasty(),), NoPlace(3), [Rules.hasty()], {"a": [Rules.hasty()]},
+        (Rules.hasty(),), NoPlace(3), [Rules.hasty()], {"a": [Rules.hasty()]}, Site(Rules.hasty(), 1),
     ]
 
 

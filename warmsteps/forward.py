@@ -166,19 +166,31 @@ class Flood:
             other = other.ahead
 
     def _rows_behind(self, row):
-        """The rows behind one move that changes the standing, or is one of few."""
-        found = []
+        """The rows behind one move that changes the standing, or is one of few.
+
+        A search in depth takes the last ones first: by what many hands write, more can be many, which covers more.
+        """
+        alone = self._rows_of_few(row)
+        claimed = []
+        copied = []
         written = {}
-        for number in numbers_in(row.many):
+        for number in numbers_in(row.many)[::-1]:
             for standing, target in self._net.next_moves(row.stands, number):
                 if standing == row.stands:
                     continue
                 if self._net.claims(number):
-                    found.append(self._claimed(row, standing, number, target))
+                    if self._is_single(row, target):
+                        alone.append(self._alone(row, standing, row.few, number, target))
+                    else:
+                        claimed.append(self._moved(row, standing, CLAIM, number, target))
                 elif standing not in written:
                     # One hand is enough: behind it, the others that write the same do not change the standing.
                     written[standing] = True
-                    found.append(self._moved(row, standing, COPY, number, target))
+                    copied.append(self._moved(row, standing, COPY, number, target))
+        return alone + claimed + copied
+
+    def _rows_of_few(self, row):
+        found = []
         for at, number in enumerate(row.few):
             if at == 0 or number != row.few[at - 1]:
                 others = row.few[:at] + row.few[at + 1:]
@@ -186,10 +198,9 @@ class Flood:
                     found.append(self._alone(row, standing, others, number, target))
         return found
 
-    def _claimed(self, row, standing, number, target):
-        if row.has_many(target) or target in self._counted or self._is_harmless(target):
-            return self._alone(row, standing, row.few, number, target)
-        return self._moved(row, standing, CLAIM, number, target)
+    def _is_single(self, row, target):
+        """Whether a hand behind a claim is taken as one alone, not as though there could be several."""
+        return row.has_many(target) or target in self._counted or self._is_harmless(target)
 
     def _moved(self, row, standing, kind, number, target):
         step = (kind, number, target, True)
