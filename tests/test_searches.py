@@ -8,10 +8,14 @@ from tests import plain
 from tests.making import changed, made
 from tests.samples import LATE, LOOK, hoard, ladder, queue, reread, two_cells
 from warmsteps.backward import Classes, least_of
-from warmsteps.forward import MANY_EVENTS, plain_rows, settled
+from warmsteps.least import least_weaving, shortest
 from warmsteps.nets import Net, Standings
+from warmsteps.rows import told_rows
 from warmsteps.rules import Rules
+from warmsteps.settle import MANY_EVENTS, plain_rows, settled, settled_slowly
+from warmsteps.turns import SAME, Turns
 from warmsteps.verdicts import is_rows, is_weaving, verdict
+from warmsteps.walks import Walk
 
 
 def claiming(number):
@@ -33,9 +37,9 @@ def waiting():
 
 
 class ForwardTest(unittest.TestCase):
-    def check(self, rules, shapes, most):
+    def check(self, rules, shapes, most, *, slowly=False):
         """The word of the search from the beginning; what it shows must show it."""
-        word, shown = settled(Net(rules, shapes), most)
+        word, shown = (settled_slowly if slowly else settled)(Net(rules, shapes), most)
         if word == "right":
             self.assertTrue(plain.is_right_list(rules, shapes, shown))
             self.assertTrue(is_rows(rules, shapes, shown))
@@ -54,22 +58,24 @@ class ForwardTest(unittest.TestCase):
                 word = self.check(rules, shapes, MANY_EVENTS)
                 self.assertEqual(word, verdict(rules, shapes)[0])
                 self.assertEqual(self.check(rules, shapes, 0), word)
+                self.assertEqual(self.check(rules, shapes, MANY_EVENTS, slowly=True), word)
+                self.assertEqual(self.check(rules, shapes, 0, slowly=True), word)
                 words[word] += 1
         self.assertGreater(min(words.values()), 50)
 
     def test_in_depth_alone(self):
-        with mock.patch("warmsteps.forward.MOST_IN_BREADTH", 1):
+        with mock.patch("warmsteps.settle.MOST_IN_BREADTH", 1):
             for number in range(150):
                 for rules in (made(number, changes=6), claiming(number)):
                     shapes = 1 + number % 2
-                    self.assertEqual(self.check(rules, shapes, None), verdict(rules, shapes)[0])
+                    self.assertEqual(self.check(rules, shapes, None, slowly=True), verdict(rules, shapes)[0])
 
     def test_hands_that_wait_in_a_claimed_state(self):
         for rules in (hoard(), waiting()):
             for shapes in (1, 2):
                 self.assertEqual(self.check(rules, shapes, MANY_EVENTS), "wrong")
-                with mock.patch("warmsteps.forward.MOST_IN_BREADTH", 1):
-                    self.assertEqual(self.check(rules, shapes, None), "wrong")
+                with mock.patch("warmsteps.settle.MOST_IN_BREADTH", 1):
+                    self.assertEqual(self.check(rules, shapes, None, slowly=True), "wrong")
             self.assertEqual(least_of(Classes(Net(rules, 1)), 3), plain.search(rules, 1, 3))
             self.assertIsNone(least_of(Classes(Net(rules, 1)), 2))
 
@@ -82,10 +88,71 @@ class ForwardTest(unittest.TestCase):
         self.assertIsNone(plain_rows(Net(Rules.hasty(), 2)))
         self.assertIsNone(plain_rows(Net(ladder(5), 1)))
         for rules in (two_cells(), Rules.plain(LOOK), Rules.plain(("add", "tell"))):
-            rows = plain_rows(Net(rules, 2))
+            net = Net(rules, 2)
+            rows = told_rows(net, plain_rows(net))
             self.assertTrue(plain.is_right_list(rules, 2, rows))
             self.assertEqual(len({row[0] for row in rows}), len(rows))
             self.assertEqual({row[2] for row in rows}, {()})
+
+
+class LeastTest(unittest.TestCase):
+    def test_from_the_beginning_and_back(self):
+        """Both searches find the same weaving, the first one of the shortest."""
+        found = 0
+        for number in range(200):
+            for rules in (made(number, changes=6), claiming(number)):
+                net = Net(rules, 1 + number % 3)
+                for hands in (1, 2):
+                    walk = Walk(net, hands)
+                    self.assertTrue(walk.run(10**6))
+                    self.assertEqual(walk.weaving(), least_of(Classes(net), hands), (number, hands))
+                    found += walk.weaving() is not None
+        self.assertGreater(found, 100)
+
+    def test_a_walk_that_is_too_long(self):
+        self.assertFalse(Walk(Net(Rules.careful(), 2), 2).run(20))
+        with mock.patch("warmsteps.fewest.MOST_STEPS", 5):
+            self.assertEqual(least_weaving(Rules.hasty(), 2), plain.search(Rules.hasty(), 2, 2))
+            self.assertIsNone(shortest(Rules.careful(), 2, 2))
+
+    def test_where_all_rows_would_be_too_many(self):
+        """What is told is the same where the quick search is not quick enough."""
+        known = [(made(number, changes=6), 1 + number % 3) for number in range(60)]
+        told = [(verdict(*case)[0], least_weaving(*case), shortest(*case, 3)) for case in known]
+        with mock.patch("warmsteps.settle.FEW_ROWS", 1):
+            for case, expected in zip(known, told):
+                word, shown = verdict(*case)
+                self.assertTrue((is_rows if word == "right" else is_weaving)(*case, shown))
+                self.assertEqual((word, least_weaving(*case), shortest(*case, 3)), expected)
+
+
+class TurnsTest(unittest.TestCase):
+    def test_turns_one_behind_the_other(self):
+        for shapes in (1, 2, 3):
+            net = Net(two_cells(), shapes)
+            net.gather()
+            turns = Turns(net)
+            self.assertEqual(len(turns.every), (1, 1, 2, 6)[shapes])
+            for turn in range(len(turns.every)):
+                self.assertEqual(turns.behind(turn, turns.back(turn)), SAME)
+                for state in range(net.how_many()):
+                    turned = turns.state(turn, state)
+                    self.assertEqual(turns.state(turns.back(turn), turned), state)
+                    for other in range(len(turns.every)):
+                        self.assertEqual(turns.state(other, turned), turns.state(turns.behind(turn, other), state))
+
+    def test_the_first_of_those_that_are_alike(self):
+        net = Net(Rules.careful(), 3)
+        turns = Turns(net)
+        for key in range(4):
+            for note in range(4):
+                one = net.standings.one(("sure", "", key, note))
+                turn, first = turns.first(one)
+                self.assertEqual(turns.standing(turn, one), first)
+                expected = (0 if key == 0 else 1, 0 if note == 0 else 1 if note == key or key == 0 else 2)
+                self.assertEqual(net.standings.told(first)[2:], expected)
+                for other in range(6):
+                    self.assertEqual(turns.first(turns.standing(other, one))[1], first)
 
 
 class StandingsTest(unittest.TestCase):

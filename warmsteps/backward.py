@@ -7,7 +7,7 @@ beside them, go wrong by some more events. Classes hold states that no move tell
 from heapq import heappop, heappush
 
 from warmsteps.nets import OUTSIDE, UNCHANGED, meetings
-from warmsteps.steps import KEY, NOTE, arrivals, beginning, put, stepped
+from warmsteps.steps import KEY, NOTE
 
 WRONG = 1
 
@@ -20,67 +20,65 @@ class Classes:
 
     def __init__(self, net):
         self.net = net
-        many = net.gather()
-        self._first = [number if number == OUTSIDE else WRONG if net.goes_wrong(number) else 2
-                       for number in range(many)]
-        self._of = self._first
+        self._many = net.gather()
         self._idle = {KEY: True, NOTE: True}
         used = self._settle()
         while used:
             self._idle = {part: True for part in self._idle if part not in used}
             used = self._settle()
-        self.many = 1 + max(self._of)
+        self.many = len(self._signs)
         found = {}
         for number, own in enumerate(self._of):
-            ways = self._ways(number)
-            for change, target in ways:
-                found[(own, change, target)] = ways[(change, target)]
+            for change, target, doing in self._ways(number):
+                found[(own, change, target)] = doing
         self.ways = [(own, found[(own, change, target)], change, target) for own, change, target in found]
 
-    def number(self, state):
-        """The class of a state, or of None for a hand outside."""
-        return self._of[self.net.number(state)]
+    def number(self, number):
+        """The class of a state of the net."""
+        return self._of[number]
 
-    def one(self, standing):
-        """The set of one standing."""
+    def one(self, one):
+        """The set of one standing, as it counts here."""
         for part in self._idle:
-            standing = put(standing, part, 0)
-        return self.net.standings.one(standing)
+            one = self.net.standings.behind(one, self.net.standings.change(part, 0))
+        return one
 
     def _settle(self):
-        """Split the classes as far as they must be; give the idle halves on which something depends then."""
-        self._of = self._first
-        before = 0
-        while before != len(set(self._of)):
-            before = len(set(self._of))
-            self._of = self._split()
+        """Find the classes; give the idle halves on which something depends then."""
+        self._of = [None] * self._many
+        self._of[OUTSIDE] = OUTSIDE
+        self._signs = {(): OUTSIDE, (WRONG,): WRONG}
         used = {}
-        for number in range(1, len(self._of)):
+        for number in range(1, self._many):
+            self._find(number)
             part = self.net.asked(number)
-            if part in self._idle and len(self._ways(number)) > 1:
+            if part in self._idle and part not in used and len(self._ways(number)) > 1:
                 used[part] = True
         return used
 
-    def _split(self):
-        """The classes split by what moves do; OUTSIDE and WRONG, met first, keep their numbers."""
-        signs = {(OUTSIDE,): OUTSIDE, (WRONG,): WRONG}
-        classes = []
-        for number, own in enumerate(self._of):
-            sign = (own,)
-            if own not in (OUTSIDE, WRONG):
-                ways = self._ways(number)
-                sign = (own, tuple(sorted([(change, target, ways[(change, target)]) for change, target in ways])))
-            classes.append(signs.setdefault(sign, len(signs)))
-        return classes
+    def _find(self, number):
+        """Find the class of a state: those alike are in one that do the same, and then are in the same classes.
+
+        No hand comes back to a state but from outside, so that what is behind a state can be found first.
+        """
+        if self._of[number] is None:
+            if self.net.goes_wrong(number):
+                self._of[number] = WRONG
+            else:
+                for _, target in self.net.ways(number):
+                    self._find(target)
+                sign = tuple(sorted(self._ways(number)))
+                self._of[number] = self._signs.setdefault(sign, len(self._signs))
 
     def _ways(self, number):
+        """The list of different tuples (change, class behind, standings in which a move does this)."""
         ways = self.net.ways(number)
         found = {}
         for change, target in ways:
             is_idle = change != UNCHANGED and self.net.standings.part(change) in self._idle
             key = (UNCHANGED if is_idle else change, self._of[target])
             found[key] = found.get(key, 0) | ways[(change, target)]
-        return found
+        return [(change, target, found[(change, target)]) for change, target in found]
 
 
 class Search:
@@ -112,6 +110,9 @@ class Search:
                       for number in range(classes.many)]
         # By need: the list of tuples (events left, standings), those with the fewest events first.
         self._found = {}
+        self._facts = {}
+        # By need: what is found of its parts, and by how many moves they must be ahead.
+        self._parts = {}
         # By (least number of all events, events left): the dict from needs to standings that are still to be judged.
         self._agenda = {}
         self._queue = []
@@ -129,7 +130,7 @@ class Search:
             for need in needs:
                 new = needs[need] & ~self._known(need, key[1])
                 if new:
-                    self._found.setdefault(need, []).append((key[1], new))
+                    self._found[need].append((key[1], new))
                     if new & self._start and need[-1] == OUTSIDE and shortest is None:
                         shortest = key[1]
                     self._go_back(need, new, key[1])
@@ -140,17 +141,13 @@ class Search:
 
         Some may be ahead of what is needed by free moves: these are done already.
         """
-        needs = {(): 0}
+        parts = [((OUTSIDE,) * many, 0) for many in range(inside.count(OUTSIDE) + 1)]
         for number in inside:
-            longer = {}
-            for source, moves in self._ahead_of(number):
-                for need in needs:
-                    more = tuple(sorted((*need, source)))
-                    longer[more] = max(longer.get(more, 0), needs[need] + moves)
-            for need in longer:
-                needs[need] = max(needs.get(need, 0), longer[need])
-        for need in needs:
-            if self._known_of(need, left + needs[need]) & one:
+            if number != OUTSIDE:
+                ahead = self._ahead_of(number)
+                parts = parts + [((*part, source), saved + moves) for part, saved in parts for source, moves in ahead]
+        for part, saved in parts:
+            if self._known_of(tuple(sorted(part)), left + saved) & one:
                 return True
         return False
 
@@ -174,34 +171,54 @@ class Search:
         A hand that is not needed might be ahead by its next free moves, so these must be won by doing without it.
         """
         known = 0
-        for part, saved in self._parts_of(need):
-            known = known | self._known_of(part, left - saved)
+        if need not in self._parts:
+            self._parts[need] = self._parts_of(need)
+        for part, saved in self._parts[need]:
+            for events, found in part:
+                if events <= left - saved:
+                    known = known | found
         return known
 
     def _parts_of(self, need):
-        """The list of tuples of a part of a need that is not empty and the free moves of those left out."""
+        """What is found of each part of a need that is not empty, with the free moves of those left out."""
         parts = [((), 0)]
         for number in need:
             kept = [((*part, number), saved) for part, saved in parts]
             parts = [(part, saved + self._free[number]) for part, saved in parts] + kept
-        return parts[1:]
+        least = {}
+        for part, saved in parts[1:]:
+            least[part] = min(saved, least.get(part, saved))
+        return [(self._found.setdefault(part, []), least[part]) for part in least]
 
     def _put(self, need, found, left):
         """Take what goes wrong by so many events, or what leads to it by moves that can be the last ones."""
-        for number in need:
-            found = found & self._met[number]
+        if need not in self._facts:
+            self._facts[need] = self._facts_of(need)
+        met, late, depth = self._facts[need]
+        found = found & met
         if not found:
             return
-        for at, number in enumerate(need):
-            if self._late[number]:
-                self._go_back_by(need, at, found, left)
-                return
-        key = (left + sum([self._depth[number] for number in need]), left)
+        if late is not None:
+            self._go_back_by(need, late, found, left)
+            return
+        key = (left + depth, left)
         if key not in self._agenda:
             self._agenda[key] = {}
             heappush(self._queue, key)
         needs = self._agenda[key]
         needs[need] = needs.get(need, 0) | found
+
+    def _facts_of(self, need):
+        """The standings in which a need can be met, the place of what is late in it, or None, and its depth."""
+        met = self._standings.whole
+        late = None
+        depth = 0
+        for at, number in enumerate(need):
+            met = met & self._met[number]
+            late = at if late is None and self._late[number] else late
+            # What is never come to stands in no standing, either.
+            depth = depth + (self._depth[number] or 0)
+        return met, late, depth
 
     def _go_back(self, need, found, left):
         """Put what leads to this by one event, by a hand that is needed for it or by another one."""
@@ -209,9 +226,9 @@ class Search:
             if at == 0 or number != need[at - 1]:
                 self._go_back_by(need, at, found, left)
         if len(need) < self._hands:
-            known = self._known(need, left + 1)
+            unknown = ~self._known(need, left + 1)
             for change, doing in self._writers:
-                ahead = self._standings.ahead(found, change) & doing & ~known
+                ahead = self._standings.ahead(found, change) & doing & unknown
                 if ahead:
                     for source in self._writers[(change, doing)]:
                         self._put(tuple(sorted((*need, source))), ahead, left + 1)
@@ -257,50 +274,35 @@ def least_of(classes, hands):
     left = search.run()
     if left is None:
         return None
-    standing = beginning(classes.net.for_rules)
-    inside = [None] * hands
+    one = classes.net.start
+    inside = [OUTSIDE] * hands
     events = []
     while left > 1:
         left = left - 1
-        event, standing, inside = first_event(classes, search, standing, inside, left)
+        event, one, inside = first_event(classes, search, one, inside, left)
         events.append(event)
-    numbers = [classes.number(state) for state in inside]
+    numbers = [classes.number(number) for number in inside]
     events.append((numbers.index(WRONG),))
     return events
 
 
-def least_with(net, fewest, most):
-    """The least wrong weaving, if it has from fewest to most different hands; else None."""
-    classes = Classes(net)
-    for hands in range(fewest, most + 1):
-        weaving = least_of(classes, hands)
-        if weaving is not None:
-            return weaving
-    return None
-
-
-def first_event(classes, search, standing, inside, left):
+def first_event(classes, search, one, inside, left):
     """The first event, as Python orders them, behind which so many are left: a tuple with what is behind it."""
-    for event, after, states in next_events(classes, standing, inside):
-        numbers = [classes.number(state) for state in states]
-        if search.reaches(classes.one(after), numbers, left):
-            return event, after, states
+    for event, after, numbers in next_events(classes.net, one, inside):
+        if search.reaches(classes.one(after), [classes.number(number) for number in numbers], left):
+            return event, after, numbers
     return None
 
 
-def next_events(classes, standing, inside):
+def next_events(net, one, inside):
     """The ascending list of events of which one must be next, each in a tuple with what is behind it.
 
     Hands that are outside are all alike, so of them only the first one is asked.
     """
-    rules = classes.net.for_rules
     found = []
-    for hand, state in enumerate(inside):
-        if state is not None:
-            after, behind = stepped(rules, standing, state)
-            found.append(((hand,), after, [*inside[:hand], behind, *inside[hand + 1:]]))
-        elif hand == inside.index(None):
-            for came in arrivals(rules, classes.net.for_shapes, standing):
-                event = (hand, came[0], came[2])
-                found.append((event, standing, [*inside[:hand], came, *inside[hand + 1:]]))
+    for hand, number in enumerate(inside):
+        if number != OUTSIDE or hand == inside.index(OUTSIDE):
+            for after, target in net.next_moves(one, number):
+                event = (hand,) if number != OUTSIDE else net.event(hand, target)
+                found.append((event, after, [*inside[:hand], target, *inside[hand + 1:]]))
     return found

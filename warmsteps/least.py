@@ -1,9 +1,9 @@
 """Stage 5: the least wrong weavings."""
 
-from warmsteps.backward import Classes, least_of, least_with
+from warmsteps.fewest import Seeker
 from warmsteps.forms import need_shapes
-from warmsteps.forward import MANY_EVENTS, settled
 from warmsteps.nets import Net
+from warmsteps.settle import MANY_EVENTS, quick, settled_slowly
 
 FEW = 2
 MOST_HANDS = 4
@@ -13,9 +13,12 @@ def least_weaving(rules, shapes):
     """The least wrong weaving, or None; of at most four different hands."""
     need_shapes(shapes)
     net = Net(rules, shapes)
-    weaving = least_with(net, 1, FEW)
+    flood = quick(net)
+    if flood is not None:
+        return None if flood.fault is None else Seeker(net).least(1, MOST_HANDS)
+    weaving = Seeker(net).least(1, FEW)
     if weaving is None and is_wrong(net):
-        weaving = least_with(net, FEW + 1, MOST_HANDS)
+        weaving = Seeker(net).least(FEW + 1, MOST_HANDS)
     return weaving
 
 
@@ -30,11 +33,14 @@ def shortest(rules, shapes, hands):
     need_shapes(shapes)
     net = Net(rules, shapes)
     # Where there is nothing to be found, a search for more hands than a few would be long.
-    if hands > FEW and not is_wrong(net):
+    flood = quick(net)
+    if flood is not None and flood.fault is None:
         return None
-    return least_of(Classes(net), hands)
+    if flood is None and hands > FEW and not is_wrong(net):
+        return None
+    return Seeker(net).shortest(hands)
 
 
 def is_wrong(net):
-    """Whether there is a wrong weaving of any number of hands."""
-    return settled(net, MANY_EVENTS)[0] == "wrong"
+    """Whether there is a wrong weaving of any number of hands, for rules that have many rows."""
+    return settled_slowly(net, MANY_EVENTS)[0] == "wrong"

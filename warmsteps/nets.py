@@ -1,8 +1,7 @@
 """States of hands by numbers and sets of standings by bits, for what goes through all of them."""
 
-from warmsteps.errors import GoneWrong
-from warmsteps.forms import CHECKS, cells_of, looks
-from warmsteps.steps import KEY, NOTE, arrivals, beginning, put, stepped
+from warmsteps.forms import ACTS, CHECKS, cells_of, looks, other_of
+from warmsteps.steps import KEY, NOTE, beginning
 
 OUTSIDE = 0
 UNCHANGED = 0
@@ -26,8 +25,9 @@ class Standings:
         self._part = [0]
         self._having = [0]
         self._shift = [0]
-        # By part: the bits of the standings that differ from the first one in this part alone.
+        # By part: the bits of the standings that differ from the first one in this part alone, and its changes.
         self._spread = []
+        self._alike = []
         step = 1
         for part, worths in enumerate(self.parts):
             first = repeated((1 << step) - 1, step * len(worths), many)
@@ -36,6 +36,7 @@ class Standings:
                 self._part.append(part)
                 self._having.append(first << (at * step))
                 self._shift.append(at * step)
+            self._alike.append([self._changes[(part, worth)] for worth in worths])
             step = step * len(worths)
             self._spread.append(repeated(1, step // len(worths), step))
 
@@ -70,15 +71,13 @@ class Standings:
             return found
         return ((found & self._having[change]) >> self._shift[change]) * self._spread[self._part[change]]
 
-    def behind(self, found, change):
-        """What the standings of the set are when they are changed so."""
+    def behind(self, found, change, every=1):
+        """What the standings of the set are when they are changed so; or of many sets side by side, by every."""
         if change == UNCHANGED:
             return found
-        part = self._part[change]
         low = 0
-        for worth in self.parts[part]:
-            other = self._changes[(part, worth)]
-            low = low | ((found & self._having[other]) >> self._shift[other])
+        for other in self._alike[self._part[change]]:
+            low = low | ((found & (self._having[other] * every)) >> self._shift[other])
         return low << self._shift[change]
 
 
@@ -91,41 +90,77 @@ def repeated(bits, every, many):
 
 
 class Net:
-    """The states of hands by numbers, OUTSIDE for those outside, and what their next moves do."""
+    """The states of hands by numbers, OUTSIDE for those outside, and what their next moves do.
+
+    A rest of a course has a number, too, so that what is equal need be found out once for each rest. Of the cells
+    that a hand owes, it is told how many are done.
+    """
 
     def __init__(self, rules, shapes):
         self.for_rules = rules
         self.for_shapes = shapes
         self.standings = Standings(rules, shapes)
         self.start = self.standings.one(beginning(rules))
-        self.states = [None]
+        # The states whose next moves go wrong, as bits.
+        self.wrong_ones = 0
+        self._cells = cells_of(rules.pattern)
+        self._courses = rules.courses
+        self._rest_numbers = {}
+        # By rest: the tuple (cell, rest, number of the rest behind its first move, number of its other course).
+        self._rests = []
         self._numbers = {}
-        self._wrong = [False]
+        # By state: the tuple (rest, own, read, how many cells are done).
+        self._parts = [None]
         self._ways = [None]
         self._next = {}
 
     def number(self, state):
         """The number of a state; one that was not asked for yet gets the next one."""
-        if state is None:
+        cell, rest, own, read, owed = state
+        return self._numbered(self._rest(cell, rest), own, read, len(self._cells) - len(owed))
+
+    def told(self, number):
+        """The state of this number, None for OUTSIDE."""
+        if number == OUTSIDE:
+            return None
+        rest, own, read, done = self._parts[number]
+        return (self._rests[rest][0], self._rests[rest][1], own, read, self._cells[done:])
+
+    def how_many(self):
+        """How many states have a number."""
+        return len(self._parts)
+
+    def turned(self, number, turn):
+        """The number of the state with its shapes exchanged for others; turn is a tuple from shapes to shapes."""
+        if number == OUTSIDE:
             return OUTSIDE
-        if state not in self._numbers:
-            self._numbers[state] = len(self.states)
-            self.states.append(state)
-            self._wrong.append(goes_wrong(self.for_rules, state))
-            self._ways.append(None)
-        return self._numbers[state]
+        rest, own, read, done = self._parts[number]
+        return self._numbered(rest, turn[own], turn[read], done)
+
+    def shapes_in(self, number):
+        """The tuple of own shape and shape read of a state."""
+        return (0, 0) if number == OUTSIDE else self._parts[number][1:3]
+
+    def event(self, hand, number):
+        """The event by which a hand from outside comes to be in this state."""
+        return (hand, self._rests[self._parts[number][0]][0], self._parts[number][1])
 
     def goes_wrong(self, number):
         """Whether the next move of a hand in this state goes wrong."""
-        return self._wrong[number]
+        return self.wrong_ones >> number & 1 == 1
 
     def asked(self, number):
         """The part of the standing on which the next move of a hand in this state depends, or None."""
-        return None if self._wrong[number] else asked_part(self.states[number])
+        if self.goes_wrong(number):
+            return None
+        rest = self._rests[self._parts[number][0]][1]
+        return asked_part(rest)
 
     def claims(self, number):
         """Whether the next move of a hand in this state is a claim."""
-        rest = self.states[number][1]
+        if number == OUTSIDE:
+            return False
+        rest = self._rests[self._parts[number][0]][1]
         return rest != () and rest[0][0] == "claim"
 
     def claimed(self):
@@ -139,50 +174,18 @@ class Net:
     def ways(self, number):
         """What a next move can do: a dict from tuples (change, state behind) to the standings in which it does this."""
         if self._ways[number] is None:
-            ways = {}
-            moves = self._coming() if number == OUTSIDE else self._moving(number)
-            for found, change, state in moves:
-                key = (change, self.number(state))
-                ways[key] = ways.get(key, 0) | found
-            self._ways[number] = ways
+            if number == OUTSIDE:
+                self._ways[number] = self._coming()
+            elif self.goes_wrong(number):
+                self._ways[number] = {}
+            else:
+                self._ways[number] = self._moving(number)
         return self._ways[number]
-
-    def _coming(self):
-        found = []
-        base = beginning(self.for_rules)
-        for cell in cells_of(self.for_rules.pattern):
-            for word in self.for_rules.words(cell):
-                for state in arrivals(self.for_rules, self.for_shapes, put(base, cell - 1, word)):
-                    if state[0] == cell:
-                        found.append((self.standings.having(cell - 1, word), UNCHANGED, state))
-        return found
-
-    def _moving(self, number):
-        if self._wrong[number]:
-            return []
-        state = self.states[number]
-        base = beginning(self.for_rules)
-        part = asked_part(state)
-        if part is None:
-            after, behind = stepped(self.for_rules, base, state)
-            return [(self.standings.whole, self._change(state, base, after), behind)]
-        found = []
-        for worth in self.standings.parts[part]:
-            standing = put(base, part, worth)
-            after, behind = stepped(self.for_rules, standing, state)
-            found.append((self.standings.having(part, worth), self._change(state, standing, after), behind))
-        return found
-
-    def _change(self, state, standing, after):
-        part = written_part(state)
-        if part is None or (after == standing and state[1][0][0] in CHECKS):
-            return UNCHANGED
-        return self.standings.change(part, after[part])
 
     def gather(self):
         """Number all states that a hand can come to, whatever others do; tell how many there are."""
         number = 0
-        while number < len(self.states):
+        while number < len(self._parts):
             self.ways(number)
             number += 1
         return number
@@ -190,7 +193,7 @@ class Net:
     def all_ways(self):
         """The list of all ways, each a tuple (state, standings in which a move does this, change, state behind)."""
         found = []
-        for number in range(len(self.states)):
+        for number in range(len(self._parts)):
             ways = self.ways(number)
             found.extend([(number, ways[(change, target)], change, target) for change, target in ways])
         return found
@@ -204,34 +207,105 @@ class Net:
                                 for change, target in ways if ways[(change, target)] & one]
         return self._next[key]
 
+    def _rest(self, cell, rest):
+        """The number of a rest, with numbers for those that can be behind its first move."""
+        key = (cell, rest)
+        if key not in self._rest_numbers:
+            after = self._rest(cell, rest[1:]) if len(rest) > 1 else None
+            other = other_of(rest[0]) if rest else ()
+            behind = self._rest(cell, other) if other else None
+            self._rest_numbers[key] = len(self._rests)
+            self._rests.append((cell, rest, after, behind))
+        return self._rest_numbers[key]
 
-def goes_wrong(rules, state):
-    """Whether the next move of a hand in this state goes wrong; that is so in all standings or in none."""
-    try:
-        stepped(rules, beginning(rules), state)
-    except GoneWrong:
-        return True
-    return False
+    def _numbered(self, rest, own, read, done):
+        key = (rest, own, read, done)
+        if key not in self._numbers:
+            number = len(self._parts)
+            self._numbers[key] = number
+            self._parts.append(key)
+            self._ways.append(None)
+            if self._is_wrong(self._rests[rest][1], own, read, done):
+                self.wrong_ones = self.wrong_ones | (1 << number)
+        return self._numbers[key]
+
+    def _is_wrong(self, rest, own, read, done):
+        name = rest[0][0] if rest else ""
+        if name == "do":
+            return done != rest[0][1] - 1
+        if name == "trust":
+            return done != 0 or read != own
+        return name == "out" and done != len(self._cells)
+
+    def _coming(self):
+        ways = {}
+        shapes = list(range(1, self.for_shapes + 1)) if looks(self.for_rules.pattern) else [0]
+        cells = self._cells[:1] if self.for_rules.closed else self._cells
+        for cell in cells:
+            owns = shapes if cell == 1 else [0]
+            for word in self.standings.parts[cell - 1]:
+                rest = self._rest(cell, self._courses[(cell, word)])
+                for own in owns:
+                    key = (UNCHANGED, self._numbered(rest, own, 0, cell - 1))
+                    ways[key] = ways.get(key, 0) | self.standings.having(cell - 1, word)
+        return ways
+
+    def _moving(self, number):
+        rest, own, read, done = self._parts[number]
+        cell, moves, after, other = self._rests[rest]
+        if not moves:
+            return self._reading(done)
+        move = moves[0]
+        name = move[0]
+        whole = self.standings.whole
+        if name in CHECKS:
+            return self._checking(move, own, self._numbered(other, own, read, done),
+                                  self._numbered(after, own, read, done))
+        if name == "note":
+            return {(UNCHANGED, self._numbered(after, own, worth, done)): self.standings.having(NOTE, worth)
+                    for worth in self.standings.parts[NOTE]}
+        if name == "out":
+            return {(UNCHANGED, OUTSIDE): whole}
+        if name == "on":
+            return {(UNCHANGED, self._numbered(self._rest(2, ()), 0, 0, done)): whole}
+        if name in ACTS:
+            return {(UNCHANGED, self._numbered(after, own, read, done + 1)): whole}
+        return {(self._change(move, own), self._numbered(after, own, read, done)): whole}
+
+    def _reading(self, done):
+        ways = {}
+        for word in self.standings.parts[1]:
+            key = (UNCHANGED, self._numbered(self._rest(2, self._courses[(2, word)]), 0, 0, done))
+            ways[key] = ways.get(key, 0) | self.standings.having(1, word)
+        return ways
+
+    def _checking(self, check, own, failed, held):
+        part, worth = (KEY, own) if check[0] == "key" else (check[1] - 1, check[2])
+        holding = self.standings.having(part, worth)
+        change = UNCHANGED
+        if check[0] == "claim" and check[3] != worth:
+            change = self.standings.change(part, check[3])
+        ways = {(change, held): holding}
+        key = (UNCHANGED, failed)
+        ways[key] = ways.get(key, 0) | (self.standings.whole & ~holding)
+        if not ways[key]:
+            del ways[key]
+        return ways
+
+    def _change(self, move, own):
+        if move[0] == "word":
+            return self.standings.change(move[1] - 1, move[2])
+        half = KEY if move[1] == "key" else NOTE
+        return self.standings.change(half, own if move[0] == "set" else 0)
 
 
-def asked_part(state):
-    """The part of the standing on which the next move depends, or None."""
-    if not state[1]:
+def asked_part(rest):
+    """The part of the standing on which the next move of a hand with this rest depends, or None."""
+    if not rest:
         return 1
-    move = state[1][0]
-    if move[0] in ("key", "note"):
-        return KEY if move[0] == "key" else NOTE
-    return move[1] - 1 if move[0] in CHECKS else None
-
-
-def written_part(state):
-    """The part of the standing that the next move may write, or None."""
-    if not state[1]:
-        return None
-    move = state[1][0]
-    if move[0] in ("set", "wipe"):
-        return KEY if move[1] == "key" else NOTE
-    return move[1] - 1 if move[0] in ("word", "claim") else None
+    if rest[0][0] in ("key", "note"):
+        return KEY if rest[0][0] == "key" else NOTE
+    return rest[0][1] - 1 if rest[0][0] in CHECKS else None
 
 
 def meetings(standings, start, ways, many):
@@ -240,17 +314,27 @@ def meetings(standings, start, ways, many):
     So it may hold more than can be, and never less. Ways are tuples (state, standings in which a move does this,
     change, state behind), and many is the number of states.
     """
-    met = [0] * many
-    met[OUTSIDE] = start
-    before = []
+    width = standings.whole.bit_length()
+    every = repeated(1, width, many * width)
+    met = start << (OUTSIDE * width)
+    before = 0
+    done = [0] * len(ways)
+    changing = {}
+    changed = {}
     while met != before:
-        before = list(met)
-        changing = {}
-        for source, found, change, target in ways:
-            doing = met[source] & found
-            met[target] = met[target] | standings.behind(doing, change)
-            changing[change] = changing.get(change, 0) | doing
+        before = met
+        for at, (source, found, change, target) in enumerate(ways):
+            doing = (met >> (source * width)) & found
+            if doing != done[at]:
+                met = met | (standings.behind(doing & ~done[at], change) << (target * width))
+                done[at] = doing
+                if change != UNCHANGED:
+                    changing[change] = changing.get(change, 0) | doing
         for change in changing:
-            for number in range(many):
-                met[number] = met[number] | standings.behind(met[number] & changing[change], change)
-    return met
+            # What a hand changes, all the others find changed, too.
+            doing = met & (changing[change] * every)
+            new = doing & ~changed.get(change, 0)
+            if new:
+                met = met | standings.behind(new, change, every)
+                changed[change] = doing
+    return [(met >> (number * width)) & standings.whole for number in range(many)]

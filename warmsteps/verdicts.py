@@ -1,28 +1,47 @@
 """Stage 4: verdicts on rules, and what shows that they hold."""
 
-from warmsteps.backward import least_with
 from warmsteps.errors import BadEvent
+from warmsteps.fewest import Seeker
 from warmsteps.forms import need_shapes
-from warmsteps.forward import MANY_EVENTS, Row, Rows, numbers_in, settled
 from warmsteps.nets import OUTSIDE, Net
+from warmsteps.rows import Row, Rows, numbers_in
+from warmsteps.settle import MANY_EVENTS, quick, settled_by, settled_slowly
 from warmsteps.sites import Site
 from warmsteps.steps import are_rows
+
+FEW = 2
+MOST_HANDS = 4
 
 
 def verdict(rules, shapes):
     """("right", a right list of rows), or ("wrong", a wrong weaving)."""
     need_shapes(shapes)
-    net = Net(rules, shapes)
-    weaving = least_with(net, 1, 2)
+    return judged(Net(rules, shapes))
+
+
+def judged(net):
+    """As verdict, for a net of the rules."""
+    flood = quick(net)
+    if flood is not None:
+        word, shown = settled_by(flood, MANY_EVENTS)
+        if word == "right" or (shown is not None and len(hands_in(shown)) <= MOST_HANDS):
+            return word, shown
+    # There are many rows, or a weaving of many hands: one of few hands is shorter, and soon found, if there is one.
+    weaving = Seeker(net).least(1, FEW)
     if weaving is not None:
         return "wrong", weaving
-    word, shown = settled(net, MANY_EVENTS)
+    if flood is None:
+        word, shown = settled_slowly(net, MANY_EVENTS)
     if shown is None:
-        # There is a way, but a long one: a weaving of few hands is shorter, if there is one.
-        shown = least_with(net, 3, 4)
+        shown = Seeker(net).least(FEW + 1, MOST_HANDS)
     if shown is None:
-        word, shown = settled(net, None)
+        word, shown = settled_by(flood, None) if flood is not None else settled_slowly(net, None)
     return word, shown
+
+
+def hands_in(weaving):
+    """The list of the different hands in a weaving."""
+    return sorted(set([event[0] for event in weaving]))
 
 
 def is_weaving(rules, shapes, value):
@@ -60,7 +79,7 @@ def as_row(net, standing, many, few):
     bits = 1 << OUTSIDE
     for state in many:
         bits = bits | (1 << net.number(state))
-    return Row(net.standings.one(standing), bits, tuple([net.number(state) for state in few]), None, [])
+    return Row(net.standings.one(standing), bits, tuple([net.number(state) for state in few]), None, None)
 
 
 def is_closed(net, rows, row):
@@ -83,7 +102,7 @@ def is_move_closed(net, rows, row, others, number, judged):
         few = others if row.has_many(target) else (*others, target)
         key = (standing, few)
         if key not in judged:
-            judged[key] = rows.has_covered(Row(standing, row.many, few, None, []))
+            judged[key] = rows.has_covered(Row(standing, row.many, few, None, None))
         if not judged[key]:
             return False
     return True
