@@ -12,10 +12,16 @@ from warmsteps.least import least_weaving, shortest
 from warmsteps.nets import Net, Standings
 from warmsteps.rows import told_rows
 from warmsteps.rules import Rules
-from warmsteps.settle import MANY_EVENTS, plain_rows, settled, settled_slowly
+from warmsteps.settle import MANY_EVENTS, plain_rows, quick, settled_by, settled_slowly
 from warmsteps.turns import SAME, Turns
 from warmsteps.verdicts import is_rows, is_weaving, verdict
 from warmsteps.walks import Walk
+
+
+def settled(net, most):
+    """What the quick search shows, or the slow one where that has not ended."""
+    flood = quick(net)
+    return settled_slowly(net, most) if flood is None else settled_by(flood, most)
 
 
 def claiming(number):

@@ -20,14 +20,22 @@ SINGLE = "single"
 class Flood:
     """Searches the rows of a net, each for all that differ from it by a turn of the shapes alone.
 
-    Counted is the dict of the states behind claims in which hands are counted, or None for all.
+    Counted is the dict of the states behind claims in which hands are counted, or None for all. Goal is a dict from
+    states to numbers of hands, or None: the search ends where these can be inside at once.
     """
 
-    def __init__(self, net, counted):
+    def __init__(self, net, counted, goal=None):
         self.net = net
         self.turns = Turns(net)
         self._counted = counted
-        self._harmless = {}
+        # By turn: the goal with its shapes turned.
+        self._goals = [{} for _ in self.turns.every] if goal is not None else []
+        for turn, turned in enumerate(self._goals):
+            for number in goal:
+                turned[self.turns.state(turn, number)] = goal[number]
+        # The number of the turn with which the goal is reached in the row that is the fault.
+        self.reached = None
+        self._harmless = {number: False for turned in self._goals for number in turned}
         # By one standing: for the bit of a state the set of states behind its moves that leave the standing as it is.
         self._staying = {}
         # By one standing: the states whose moves change it, as bits, and by state the list of what these moves do.
@@ -72,6 +80,10 @@ class Flood:
             if self.fault is not None or self.rows.has_covered(row):
                 return False
         self.rows.add(row)
+        for turn, goal in enumerate(self._goals):
+            if row.holds(goal):
+                self.fault = row
+                self.reached = turn
         return True
 
     def _close(self, row):

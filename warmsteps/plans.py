@@ -86,13 +86,13 @@ class Trail:
 
 
 class Plan:
-    """Goes the steps to a wrong row back, and finds how many hands do each of them."""
+    """Goes the steps to a row back, and finds how many hands do each of them; need is how many are in which state."""
 
-    def __init__(self, trail):
+    def __init__(self, trail, need):
         self._trail = trail
-        self._need = {trail.fault: 1}
+        self._need = {number: need[number] for number in need}
         # Tuples (state, state behind, how many hands do this move one after the other), the last ones first.
-        self.done = [(trail.fault, OUTSIDE, 1)]
+        self.done = []
         # The states behind claims that several hands had to do at once.
         self.doubled = {}
 
@@ -146,6 +146,22 @@ class Plan:
             self._need[number] = self._need.get(number, 0) + many
         self.done.append((number, target, many))
         return many
+
+
+def plan_of_fault(flood):
+    """A plan by which a hand goes wrong at last, as a search found it."""
+    trail = Trail(flood)
+    plan = Plan(trail, {trail.fault: 1})
+    plan.done.append((trail.fault, OUTSIDE, 1))
+    return plan
+
+
+def plan_of_goal(flood, goal):
+    """The tuple of a plan by which a search reached its goal, and the turn that makes it one for the goal's shapes."""
+    turns = flood.turns
+    turn = turns.behind(flood.reached, flood.fault.turn)
+    need = {turns.state(turn, number): goal[number] for number in goal}
+    return Plan(Trail(flood), need), turns.every[turns.back(turn)]
 
 
 def woven(net, moves):
