@@ -1,6 +1,7 @@
 """What of the rules of the language can be seen in the files of the package."""
 
 import ast
+import builtins
 import pathlib
 import re
 import unittest
@@ -101,7 +102,7 @@ class LanguageTest(unittest.TestCase):
             for node in ast.walk(tree):
                 name = getattr(node, "id", None) if isinstance(getattr(node, "ctx", None), ast.Store) else None
                 name = node.arg if isinstance(node, ast.arg) else name
-                self.assertNotIn(name, dir(__builtins__) if not isinstance(__builtins__, dict) else __builtins__, path)
+                self.assertFalse(name not in (None, "_") and hasattr(builtins, name), (path, name))
 
     def test_imports_and_classes_keep_their_names(self):
         for path, _, tree in trees():

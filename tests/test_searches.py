@@ -181,8 +181,8 @@ class StandingsTest(unittest.TestCase):
                         self.assertEqual(standings.behind(one, change), after)
                         ahead = sum(other for other, before in zip(ones, known)
                                     if (*before[:part], worth, *before[part + 1:]) == standing)
-                        self.assertEqual(standings.ahead(one, change), ahead)
-            self.assertEqual(standings.ahead(ones[0], 0), ones[0])
+                        self.assertEqual(standings.before(one, change), ahead)
+            self.assertEqual(standings.before(ones[0], 0), ones[0])
             self.assertEqual(standings.behind(ones[0], 0), ones[0])
 
 

@@ -29,11 +29,11 @@ class Classes:
         self.many = len(self._signs)
         found = {}
         for number, own in enumerate(self._of):
-            for change, target, doing in self._ways(number):
+            for change, target, doing in self._ways_of(number):
                 found[(own, change, target)] = doing
         self.ways = [(own, found[(own, change, target)], change, target) for own, change, target in found]
 
-    def number(self, number):
+    def number_of(self, number):
         """The class of a state of the net."""
         return self._of[number]
 
@@ -52,7 +52,7 @@ class Classes:
         for number in range(1, self._many):
             self._find(number)
             part = self.net.asked(number)
-            if part in self._idle and part not in used and len(self._ways(number)) > 1:
+            if part in self._idle and part not in used and len(self._ways_of(number)) > 1:
                 used[part] = True
         return used
 
@@ -65,14 +65,14 @@ class Classes:
             if self.net.goes_wrong(number):
                 self._of[number] = WRONG
             else:
-                for _, target in self.net.ways(number):
+                for _, target in self.net.ways_of(number):
                     self._find(target)
-                sign = tuple(sorted(self._ways(number)))
+                sign = tuple(sorted(self._ways_of(number)))
                 self._of[number] = self._signs.setdefault(sign, len(self._signs))
 
-    def _ways(self, number):
+    def _ways_of(self, number):
         """The list of different tuples (change, class behind, standings in which a move does this)."""
-        ways = self.net.ways(number)
+        ways = self.net.ways_of(number)
         found = {}
         for change, target in ways:
             is_idle = change != UNCHANGED and self.net.standings.part(change) in self._idle
@@ -128,7 +128,7 @@ class Search:
                 break
             needs = self._agenda.pop(key)
             for need in needs:
-                new = needs[need] & ~self._known(need, key[1])
+                new = needs[need] & ~self._found_within(need, key[1])
                 if new:
                     self._found[need].append((key[1], new))
                     if new & self._start and need[-1] == OUTSIDE and shortest is None:
@@ -165,7 +165,7 @@ class Search:
                 known = known | found
         return known
 
-    def _known(self, need, left):
+    def _found_within(self, need, left):
         """The standings of which it is found that they need no more than this, and so many events.
 
         A hand that is not needed might be ahead by its next free moves, so these must be won by doing without it.
@@ -226,9 +226,9 @@ class Search:
             if at == 0 or number != need[at - 1]:
                 self._go_back_by(need, at, found, left)
         if len(need) < self._hands:
-            unknown = ~self._known(need, left + 1)
+            unknown = ~self._found_within(need, left + 1)
             for change, doing in self._writers:
-                ahead = self._standings.ahead(found, change) & doing & unknown
+                ahead = self._standings.before(found, change) & doing & unknown
                 if ahead:
                     for source in self._writers[(change, doing)]:
                         self._put(tuple(sorted((*need, source))), ahead, left + 1)
@@ -236,7 +236,7 @@ class Search:
     def _go_back_by(self, need, at, found, left):
         others = need[:at] + need[at + 1:]
         for source, doing, change in self._moves_to[need[at]]:
-            ahead = self._standings.ahead(found, change) & doing
+            ahead = self._standings.before(found, change) & doing
             if ahead:
                 self._put(tuple(sorted((*others, source))), ahead, left + 1)
 
@@ -281,7 +281,7 @@ def least_of(classes, hands):
         left = left - 1
         event, one, inside = first_event(classes, search, one, inside, left)
         events.append(event)
-    numbers = [classes.number(number) for number in inside]
+    numbers = [classes.number_of(number) for number in inside]
     events.append((numbers.index(WRONG),))
     return events
 
@@ -289,7 +289,7 @@ def least_of(classes, hands):
 def first_event(classes, search, one, inside, left):
     """The first event, as Python orders them, behind which so many are left: a tuple with what is behind it."""
     for event, after, numbers in next_events(classes.net, one, inside):
-        if search.reaches(classes.one(after), [classes.number(number) for number in numbers], left):
+        if search.reaches(classes.one(after), [classes.number_of(number) for number in numbers], left):
             return event, after, numbers
     return None
 
@@ -303,6 +303,6 @@ def next_events(net, one, inside):
     for hand, number in enumerate(inside):
         if number != OUTSIDE or hand == inside.index(OUTSIDE):
             for after, target in net.next_moves(one, number):
-                event = (hand,) if number != OUTSIDE else net.event(hand, target)
+                event = (hand,) if number != OUTSIDE else net.coming(hand, target)
                 found.append((event, after, [*inside[:hand], target, *inside[hand + 1:]]))
     return found

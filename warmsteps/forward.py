@@ -66,7 +66,7 @@ class Flood:
         for row in self.rows.listed():
             for turn in range(len(self.turns.every)):
                 key = (self.turns.standing(turn, row.stands), self.turns.states(turn, row.many),
-                       self.turns.few(turn, row.few))
+                       self.turns.turned_few(turn, row.few))
                 found[key] = True
         return list(found)
 
@@ -175,7 +175,7 @@ class Flood:
         many, few = self.moved(row, kind, number, target)
         turn, standing = self.turns.first(standing)
         many = self.turns.states(turn, many)
-        few = self.turns.few(turn, few)
+        few = self.turns.turned_few(turn, few)
         key = (standing, many, few)
         if key in self._seen:
             return []
@@ -201,5 +201,5 @@ class Flood:
         """Whether a hand in this state writes nothing more, and never goes wrong: then its number does not matter."""
         if number not in self._harmless:
             self._harmless[number] = number == OUTSIDE or (not self.net.goes_wrong(number) and all(
-                [change == UNCHANGED and self._is_harmless(target) for change, target in self.net.ways(number)]))
+                [change == UNCHANGED and self._is_harmless(target) for change, target in self.net.ways_of(number)]))
         return self._harmless[number]

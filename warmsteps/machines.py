@@ -92,7 +92,7 @@ class Machine:
     def at(self, hand):
         """The tuple of the place of a hand and the moves of the course in which it is."""
         self._need_hand(hand)
-        return self._hands[hand].plain[0], self._hands[hand].rest
+        return self._hands[hand].bare[0], self._hands[hand].rest
 
     def stand(self, site):
         """The standing of a site."""
@@ -139,7 +139,8 @@ class Machine:
 
     def __eq__(self, other):
         return (isinstance(other, Machine) and self._program == other._program and self._rules == other._rules
-                and self._inputs == other._inputs and self.moves() == other.moves())
+                and self._inputs == other._inputs
+                and [done[0] for done in self._done] == [done[0] for done in other._done])
 
     def _need_hand(self, hand):
         if not is_integer(hand) or not 0 <= hand < len(self._hands):
@@ -153,14 +154,14 @@ class Machine:
         """The site at which the next move of a hand is, or None."""
         if known.site is not None:
             return known.site
-        site, cell = self._cells.get(known.plain[0], (None, 0))
+        site, cell = self._cells.get(known.bare[0], (None, 0))
         return None if site is None or (cell == 2 and self._rules[site].closed) else site
 
     def _done_plainly(self, hand):
         """The deed of a step at the place of a hand."""
         known = self._hands[hand]
-        place = known.plain[0]
-        end, plain, worth = plain_step(self._program, self._inputs[hand], place, known.plain)
+        place = known.bare[0]
+        end, plain, worth = plain_step(self._program, self._inputs[hand], place, known.bare)
         if end is not None:
             return Deed(ended(known, end), None, None, None)
         return Deed(outside(plain, end_at(self._program, plain[0])), None, (place, worth), None)
@@ -170,15 +171,15 @@ class Machine:
         known = self._hands[hand]
         standing = self._stands[site]
         rules = self._rules[site]
-        cell = known.plain[0] - site + 1
+        cell = known.bare[0] - site + 1
         own = None
         if cell == 1 and looks(rules.pattern):
-            stack = known.plain[1]
+            stack = known.bare[1]
             if place_in(self._program[site][1], stack) is None:
                 return Deed(ended(known, "faulted"), standing, None, None)
             own = stack[-1][0]
         rest = rules.course(cell, standing[cell - 1])
-        return Deed(Hand(known.plain, None, site, cell, rest, own, None), standing, None, (cell, own))
+        return Deed(Hand(known.bare, None, site, cell, rest, own, None), standing, None, (cell, own))
 
     def _has_moved(self, hand):
         """Move any value that is a hand that can; tell whether it was one."""

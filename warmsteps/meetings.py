@@ -14,7 +14,7 @@ def meets(rules, shapes, states):
     net = need_meeting(rules, shapes, states)
     goal = {}
     for state in states:
-        number = net.number(state)
+        number = net.number_of(state)
         goal[number] = goal.get(number, 0) + 1
     return met(net, goal)
 

@@ -65,7 +65,7 @@ class Standings:
             number = number // len(worths)
         return tuple(standing)
 
-    def ahead(self, found, change):
+    def before(self, found, change):
         """All standings that are in the set when they are changed so."""
         if change == UNCHANGED:
             return found
@@ -114,7 +114,7 @@ class Net:
         self._ways = [None]
         self._next = {}
 
-    def number(self, state):
+    def number_of(self, state):
         """The number of a state; one that was not asked for yet gets the next one."""
         cell, rest, own, read, owed = state
         return self._numbered(self._rest(cell, rest), own, read, len(self._cells) - len(owed))
@@ -141,7 +141,7 @@ class Net:
         """The tuple of own shape and shape read of a state."""
         return (0, 0) if number == OUTSIDE else self._parts[number][1:3]
 
-    def event(self, hand, number):
+    def coming(self, hand, number):
         """The event by which a hand from outside comes to be in this state."""
         return (hand, self._rests[self._parts[number][0]][0], self._parts[number][1])
 
@@ -171,7 +171,7 @@ class Net:
                 found[target] = True
         return list(found)
 
-    def ways(self, number):
+    def ways_of(self, number):
         """What a next move can do: a dict from tuples (change, state behind) to the standings in which it does this."""
         if self._ways[number] is None:
             if number == OUTSIDE:
@@ -186,7 +186,7 @@ class Net:
         """Number all states that a hand can come to, whatever others do; tell how many there are."""
         number = 0
         while number < len(self._parts):
-            self.ways(number)
+            self.ways_of(number)
             number += 1
         return number
 
@@ -194,7 +194,7 @@ class Net:
         """The list of all ways, each a tuple (state, standings in which a move does this, change, state behind)."""
         found = []
         for number in range(len(self._parts)):
-            ways = self.ways(number)
+            ways = self.ways_of(number)
             found.extend([(number, ways[(change, target)], change, target) for change, target in ways])
         return found
 
@@ -202,7 +202,7 @@ class Net:
         """What a next move does in one standing: the list of tuples (one standing behind, state behind)."""
         key = (one, number)
         if key not in self._next:
-            ways = self.ways(number)
+            ways = self.ways_of(number)
             self._next[key] = [(self.standings.behind(one, change), target)
                                 for change, target in ways if ways[(change, target)] & one]
         return self._next[key]

@@ -23,7 +23,7 @@ class Trail:
         self.ends = {}
         self._end_of = {}
         # By standing: the list of the ends of the rows that stand so.
-        self.places = {}
+        self.ends_at = {}
         self.fault = None
         self._retrace(flood.fault)
 
@@ -59,7 +59,7 @@ class Trail:
             self._pump(row)
         if self.fault is None:
             self.ends[len(self.steps)] = row
-            self.places.setdefault(row.stands, []).append(len(self.steps))
+            self.ends_at.setdefault(row.stands, []).append(len(self.steps))
 
     def _close(self, row):
         agenda = numbers_in(row.many)
@@ -123,7 +123,7 @@ class Plan:
     def _first_like(self, at):
         """The end of the first row that stands as the one with this end, and holds what is needed, or None."""
         if at in self._trail.ends:
-            for end in self._trail.places[self._trail.ends[at].stands]:
+            for end in self._trail.ends_at[self._trail.ends[at].stands]:
                 if end <= at and self._trail.ends[end].holds(self._need):
                     return end
         return None
@@ -180,7 +180,7 @@ def woven(net, moves):
                     outside.append(came)
                     came += 1
                 hand = outside.pop()
-                events.append(net.event(hand, target))
+                events.append(net.coming(hand, target))
             if target == OUTSIDE:
                 outside.append(hand)
             else:

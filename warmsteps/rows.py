@@ -92,7 +92,7 @@ def numbers_in(bits):
 def told_rows(net, rows):
     """The list of tuples (standing, many, few) for a list of tuples of one standing, a set of states, and few."""
     states = [net.told(number) for number in range(net.how_many())]
-    ascending = sorted(list(range(1, net.how_many())), key=lambda number: states[number])
+    ascending = sorted(list(range(1, net.how_many())), key=lambda one: states[one])
     rank = [0] * net.how_many()
     for at, number in enumerate(ascending):
         rank[number] = at

@@ -8,13 +8,13 @@ from warmsteps.steps import KEY, NOTE, put
 class Hand:
     """A hand of a machine; it never changes.
 
-    Plain is the tuple (place, stack, how many inputs are taken), and stop how it has ended, or None. Site is the place
+    Bare is the tuple (place, stack, how many inputs are taken), and stop how it has ended, or None. Site is the place
     of the site in which the hand is, or None; then it is at a cell, and rest are the moves of its course that are
     left, () behind "on". Own is its shape, and read the place that it has read, or None.
     """
 
-    def __init__(self, plain, stop, site, cell, rest, own, read):
-        self.plain = plain
+    def __init__(self, bare, stop, site, cell, rest, own, read):
+        self.bare = bare
         self.stop = stop
         self.site = site
         self.cell = cell
@@ -44,12 +44,12 @@ def outside(plain, end):
 
 def ended(hand, end):
     """A hand that ends where it is."""
-    return Hand(hand.plain, end, hand.site, hand.cell, (), hand.own, hand.read)
+    return Hand(hand.bare, end, hand.site, hand.cell, (), hand.own, hand.read)
 
 
 def left(hand, rest):
     """A hand with these moves of its course left."""
-    return Hand(hand.plain, None, hand.site, hand.cell, rest, hand.own, hand.read)
+    return Hand(hand.bare, None, hand.site, hand.cell, rest, hand.own, hand.read)
 
 
 def moved(program, inputs, rules, standing, hand):
@@ -84,7 +84,7 @@ def checked(standing, hand, check, behind):
 
 def left_off(program, rules, standing, hand, name):
     """The deed of an end of a course."""
-    _, stack, taken = hand.plain
+    _, stack, taken = hand.bare
     if name == "on":
         behind = Hand((hand.site + 1, stack, taken), None, hand.site, 2, (), None, None)
         return Deed(behind, standing, None, ())
@@ -97,13 +97,13 @@ def acted(program, inputs, standing, hand, act):
     """The deed of an act, which is done at the place of its cell."""
     place = hand.site if act[0] == "trust" else hand.site + act[1] - 1
     if act[0] == "trust":
-        end, plain, worth = looked(hand.plain[1], hand.read, place, hand.plain)
+        end, plain, worth = looked(hand.bare[1], hand.read, place, hand.bare)
     else:
-        end, plain, worth = plain_step(program, inputs, place, hand.plain)
+        end, plain, worth = plain_step(program, inputs, place, hand.bare)
     if end is not None:
         return Deed(ended(hand, end), standing, None, ())
     behind = left(hand, hand.rest[1:])
-    behind.plain = (hand.plain[0], plain[1], plain[2])
+    behind.bare = (hand.bare[0], plain[1], plain[2])
     return Deed(behind, standing, (place, worth), ())
 
 

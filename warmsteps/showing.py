@@ -22,7 +22,7 @@ class Stage:
         self._pattern = rules.pattern
         # A hand can be led to the second cell of open rules alone.
         self._leads = len(rules.pattern) == 2 and not rules.closed
-        ahead = [("take",) for _ in self._numbers(1, 1)]
+        ahead = [("take",) for _ in self._stack(1, 1)]
         if self._leads:
             ahead = [("take",), ("branch", len(ahead) + len(rules.pattern) + 3), *ahead]
         self.site = len(ahead)
@@ -30,19 +30,19 @@ class Stage:
         behind = [("take",) for _ in NUMBERS] + [("jump", self.site + 1)] if self._leads else []
         self.program = (*ahead, *cells, ("jump", 0), *behind)
 
-    def _numbers(self, cell, shape):
+    def _stack(self, cell, shape):
         """What a hand has on its stack when it comes."""
         record = [(SHAPES[shape - 1], VALUES)] if cell == 1 and looks(self._pattern) else []
         return [*NUMBERS, *record]
 
     def inputs(self, cell, shape):
         """What a hand takes to come to a cell with a shape, and in the cells."""
-        found = self._numbers(cell, shape) + [TO_FIRST for word in self._pattern[cell - 1:] if word == "take"]
+        found = self._stack(cell, shape) + [TO_FIRST for word in self._pattern[cell - 1:] if word == "take"]
         return [TO_FIRST if cell == 1 else TO_SECOND, *found] if self._leads else found
 
     def moves_to(self, cell):
         """How many moves a hand outside makes from the first step of the program until it has come to a cell."""
-        ahead = len(self._numbers(cell, 1)) + 1
+        ahead = len(self._stack(cell, 1)) + 1
         return ahead + (0 if not self._leads else 2 if cell == 1 else 3)
 
 

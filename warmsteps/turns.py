@@ -76,7 +76,7 @@ class Turns:
             known[states] = turned
         return known[states]
 
-    def few(self, number, few):
+    def turned_few(self, number, few):
         """An ascending tuple of states with their shapes turned."""
         if number == SAME or not few:
             return few

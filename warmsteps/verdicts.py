@@ -78,8 +78,8 @@ def as_row(net, standing, many, few):
     """A row of tuples as one of the search."""
     bits = 1 << OUTSIDE
     for state in many:
-        bits = bits | (1 << net.number(state))
-    return Row(net.standings.one(standing), bits, tuple([net.number(state) for state in few]), None, None)
+        bits = bits | (1 << net.number_of(state))
+    return Row(net.standings.one(standing), bits, tuple([net.number_of(state) for state in few]), None, None)
 
 
 def is_closed(net, rows, row):

@@ -57,7 +57,7 @@ class Walk:
         while at:
             ahead, hand = self._ways[at]
             came = self._met[ahead][hand + 1] == OUTSIDE
-            events.append(self._net.event(hand, self._met[at][hand + 1]) if came else (hand,))
+            events.append(self._net.coming(hand, self._met[at][hand + 1]) if came else (hand,))
             at = ahead
         return events[::-1]
 
