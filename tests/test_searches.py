@@ -181,8 +181,9 @@ class StandingsTest(unittest.TestCase):
                         self.assertEqual(standings.behind(one, change), after)
                         ahead = sum(other for other, before in zip(ones, known)
                                     if (*before[:part], worth, *before[part + 1:]) == standing)
-                        self.assertEqual(standings.before(one, change), ahead)
-            self.assertEqual(standings.before(ones[0], 0), ones[0])
+                        having, shift, spread = standings.ahead_of(change)
+                        self.assertEqual(((one & having) >> shift) * spread, ahead)
+            self.assertEqual(standings.ahead_of(0), (standings.whole, 0, 1))
             self.assertEqual(standings.behind(ones[0], 0), ones[0])
 
 

@@ -90,18 +90,22 @@ class Search:
         self._hands = hands
         self._met = meetings(self._standings, self._start, classes.ways, classes.many)
         self._depth = depths(classes, self._met)
+        # By class: the tuples of a class from which a hand comes to it, the standings in which it does, and how to find
+        # what they are ahead of this, as Standings.ahead_of tells.
         self._moves_to = [[] for _ in range(classes.many)]
-        self._writers = {}
+        writers = {}
         # By class: the classes from which a hand comes to it by a move that depends on nothing and writes nothing.
         self._freely_from = [[] for _ in range(classes.many)]
         for source, found, change, target in classes.ways:
             doing = found & self._met[source]
             if doing:
-                self._moves_to[target].append((source, doing, change))
+                self._moves_to[target].append((source, doing, *self._standings.ahead_of(change)))
             if doing and change != UNCHANGED:
-                self._writers.setdefault((change, doing), []).append(source)
+                writers.setdefault((doing, *self._standings.ahead_of(change)), []).append(source)
             if doing and change == UNCHANGED and found == self._standings.whole and source != OUTSIDE:
                 self._freely_from[target].append(source)
+        # Tuples of such standings, and so on, and the classes from which a hand changes them so.
+        self._writers = [(*writer, writers[writer]) for writer in writers]
         # By class: how many free moves are next.
         self._free = free_moves(self._freely_from)
         # By class: whether hands come to it by such moves only. The last one of these can stand behind what others do
@@ -146,9 +150,11 @@ class Search:
             if number != OUTSIDE:
                 ahead = self._ahead_of(number)
                 parts = parts + [((*part, source), saved + moves) for part, saved in parts for source, moves in ahead]
-        for part, saved in parts:
-            if self._known_of(tuple(sorted(part)), left + saved) & one:
-                return True
+        # Most of what is inside is needed, so the parts with many hands are looked up first.
+        for part, saved in parts[::-1]:
+            for events, found in self._found.get(tuple(sorted(part)), ()):
+                if found & one and events <= left + saved:
+                    return True
         return False
 
     def _ahead_of(self, number):
@@ -157,13 +163,6 @@ class Search:
         for source in self._freely_from[number]:
             found.extend([(other, moves + 1) for other, moves in self._ahead_of(source)])
         return found
-
-    def _known_of(self, need, left):
-        known = 0
-        for events, found in self._found.get(need, ()):
-            if events <= left:
-                known = known | found
-        return known
 
     def _found_within(self, need, left):
         """The standings of which it is found that they need no more than this, and so many events.
@@ -185,10 +184,7 @@ class Search:
         for number in need:
             kept = [((*part, number), saved) for part, saved in parts]
             parts = [(part, saved + self._free[number]) for part, saved in parts] + kept
-        least = {}
-        for part, saved in parts[1:]:
-            least[part] = min(saved, least.get(part, saved))
-        return [(self._found.setdefault(part, []), least[part]) for part in least]
+        return [(self._found.setdefault(part, []), saved) for part, saved in parts[1:]]
 
     def _put(self, need, found, left):
         """Take what goes wrong by so many events, or what leads to it by moves that can be the last ones."""
@@ -227,16 +223,16 @@ class Search:
                 self._go_back_by(need, at, found, left)
         if len(need) < self._hands:
             unknown = ~self._found_within(need, left + 1)
-            for change, doing in self._writers:
-                ahead = self._standings.before(found, change) & doing & unknown
+            for doing, having, shift, spread, sources in self._writers:
+                ahead = ((found & having) >> shift) * spread & doing & unknown
                 if ahead:
-                    for source in self._writers[(change, doing)]:
+                    for source in sources:
                         self._put(tuple(sorted((*need, source))), ahead, left + 1)
 
     def _go_back_by(self, need, at, found, left):
         others = need[:at] + need[at + 1:]
-        for source, doing, change in self._moves_to[need[at]]:
-            ahead = self._standings.before(found, change) & doing
+        for source, doing, having, shift, spread in self._moves_to[need[at]]:
+            ahead = ((found & having) >> shift) * spread & doing
             if ahead:
                 self._put(tuple(sorted((*others, source))), ahead, left + 1)
 
@@ -288,10 +284,12 @@ def least_of(classes, hands):
 
 def first_event(classes, search, one, inside, left):
     """The first event, as Python orders them, behind which so many are left: a tuple with what is behind it."""
-    for event, after, numbers in next_events(classes.net, one, inside):
+    found = next_events(classes.net, one, inside)
+    for event, after, numbers in found[:-1]:
         if search.reaches(classes.one(after), [classes.number_of(number) for number in numbers], left):
             return event, after, numbers
-    return None
+    # There is one, so it is the last one where it is none of the others.
+    return found[-1]
 
 
 def next_events(net, one, inside):

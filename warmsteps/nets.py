@@ -65,11 +65,11 @@ class Standings:
             number = number // len(worths)
         return tuple(standing)
 
-    def before(self, found, change):
-        """All standings that are in the set when they are changed so."""
+    def ahead_of(self, change):
+        """How to find what is in a set when it is changed so: ((set & having) >> shift) * spread of the tuple told."""
         if change == UNCHANGED:
-            return found
-        return ((found & self._having[change]) >> self._shift[change]) * self._spread[self._part[change]]
+            return self.whole, 0, 1
+        return self._having[change], self._shift[change], self._spread[self._part[change]]
 
     def behind(self, found, change, every=1):
         """What the standings of the set are when they are changed so; or of many sets side by side, by every."""
