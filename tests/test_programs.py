@@ -127,6 +127,9 @@ class RunTest(unittest.TestCase):
         self.assertEqual(told([("take",), ("branch", 3), ("jump", 0), ("take",)], [1, 0]),
                          ([(0, 1), (1, None), (2, None), (0, 0), (1, None)], "over"))
         self.assertEqual(told([("jump", 1)], []), ([(0, None)], "over"))
+        self.assertEqual(told([("take",), ("take",), ("take",), ("tell",), ("add",)], [1, 2, 4])[0][3:], [(3, 4), (4, 3)])
+        self.assertEqual(told([("take",), ("take",), ("take",), ("add",), ("add",)], [1, 2, 4])[0][3:], [(3, 6), (4, 7)])
+        self.assertEqual(told([("take",), ("take",), ("branch", 0), ("tell",)], [7, 1])[0][2:], [(2, None), (3, 7)])
         self.assertEqual(told([("take",), ("look", "a")], [RECORD]), ([(0, RECORD), (1, 5)], "over"))
         self.assertEqual(told([("take",), ("take",), ("add",)], [HUGE, HUGE])[0][2], (2, 2 * HUGE))
 

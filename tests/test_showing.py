@@ -77,6 +77,8 @@ class ShownTest(unittest.TestCase):
                 self.check(ladder(many), shapes, verdict(ladder(many), shapes)[1])
         alone_wrong = with_course(LOOK, (1, "plain"), OUT)
         self.check(alone_wrong, 1, [(0, 1, 1), (0,)])
+        self.check(alone_wrong, 2, [(0, 1, 1), (1, 1, 2), (0,)])
+        self.check(alone_wrong, 2, [(3, 1, 1), (1, 1, 2), (3,)])
         self.check(wrong_by_four(), 3, least_weaving(wrong_by_four(), 3))
         self.check(hoard(), 1, verdict(hoard(), 1)[1])
         self.check(reread(), 2, verdict(reread(), 2)[1])

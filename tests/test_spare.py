@@ -149,6 +149,21 @@ class TrimmedTest(unittest.TestCase):
         self.assertEqual(alone.courses[(1, "plain")], (("do", 1), ("set", "note"), ("word", 1, "sure"), ("out",)))
         self.assertEqual(alone.courses[(1, "sure")], (("note",), ("trust",), ("out",)))
 
+    def test_dearer_by_one_and_once(self):
+        """Without the key of the first visit the second one sets it, and is dearer by the price less one move."""
+        again = (("do", 1), ("set", "key"), ("out",))
+        rules = Rules(LOOK, {(1, "plain"): (("do", 1), ("set", "note"), ("set", "key"), ("word", 1, "sure"), ("out",)),
+                             (1, "sure"): (("key", again), ("note",), ("trust",), ("out",))})
+        place = (1, "plain", (2,))
+        self.assertEqual([never_dearer(rules.without(place), rules, 1, 2, amount)[0] for amount in (0, 1)], ["no", "yes"])
+        # One more move, once, is one too many.
+        courses = {**given_up().courses, (1, "busy"): (("do", 1), ("note",), ("out",))}
+        for other in (rules, given_up(), Rules(LOOK, courses)):
+            for shapes in (1, 2):
+                for price in (0, 1, 2, 3):
+                    if verdict(other, shapes)[0] == "right":
+                        self.assertEqual(trimmed(other, shapes, price), trimmed_plainly(other, shapes, price))
+
     def test_two_moves_each_of_which_can_be_left_out_and_not_both(self):
         """With one shape what is trusted must be noted, or there must be no key by which one comes to trust."""
         rules = Rules(LOOK, {(1, "plain"): (("do", 1), ("set", "note"), ("note",), ("word", 1, "sure"), ("out",)),

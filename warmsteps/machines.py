@@ -179,7 +179,7 @@ class Machine:
                 return Deed(ended(known, "faulted"), standing, None, None)
             own = stack[-1][0]
         rest = rules.course(cell, standing[cell - 1])
-        return Deed(Hand(known.bare, None, site, cell, rest, own, None), standing, None, (cell, own))
+        return Deed(Hand(known.bare, None, site, rest, own, None), standing, None, (cell, own))
 
     def _has_moved(self, hand):
         """Move any value that is a hand that can; tell whether it was one."""

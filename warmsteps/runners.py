@@ -9,15 +9,14 @@ class Hand:
     """A hand of a machine; it never changes.
 
     Bare is the tuple (place, stack, how many inputs are taken), and stop how it has ended, or None. Site is the place
-    of the site in which the hand is, or None; then it is at a cell, and rest are the moves of its course that are
-    left, () behind "on". Own is its shape, and read the place that it has read, or None.
+    of the site in which the hand is, or None. Rest are the moves of its course that are left, () behind "on". Own is
+    its shape, and read the place that it has read, or None.
     """
 
-    def __init__(self, bare, stop, site, cell, rest, own, read):
+    def __init__(self, bare, stop, site, rest, own, read):
         self.bare = bare
         self.stop = stop
         self.site = site
-        self.cell = cell
         self.rest = rest
         self.own = own
         self.read = read
@@ -39,17 +38,17 @@ class Deed:
 
 def outside(plain, end):
     """A hand that is in no site."""
-    return Hand(plain, end, None, 0, (), None, None)
+    return Hand(plain, end, None, (), None, None)
 
 
 def ended(hand, end):
     """A hand that ends where it is."""
-    return Hand(hand.bare, end, hand.site, hand.cell, (), hand.own, hand.read)
+    return Hand(hand.bare, end, hand.site, (), hand.own, hand.read)
 
 
 def left(hand, rest):
     """A hand with these moves of its course left."""
-    return Hand(hand.bare, None, hand.site, hand.cell, rest, hand.own, hand.read)
+    return Hand(hand.bare, None, hand.site, rest, hand.own, hand.read)
 
 
 def moved(program, inputs, rules, standing, hand):
@@ -86,7 +85,7 @@ def left_off(program, rules, standing, hand, name):
     """The deed of an end of a course."""
     _, stack, taken = hand.bare
     if name == "on":
-        behind = Hand((hand.site + 1, stack, taken), None, hand.site, 2, (), None, None)
+        behind = Hand((hand.site + 1, stack, taken), None, hand.site, (), None, None)
         return Deed(behind, standing, None, ())
     place = hand.site + len(rules.pattern)
     end = "over" if place == len(program) else None
