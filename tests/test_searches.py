@@ -15,7 +15,7 @@ from warmsteps.rules import Rules
 from warmsteps.settle import MANY_EVENTS, plain_rows, quick, settled_by, settled_slowly
 from warmsteps.turns import SAME, Turns
 from warmsteps.verdicts import is_rows, is_weaving, verdict
-from warmsteps.walks import Walk
+from warmsteps.walks import Walk, is_first_alike
 
 
 def settled(net, most):
@@ -114,6 +114,15 @@ class LeastTest(unittest.TestCase):
                     self.assertEqual(walk.weaving(), least_of(Classes(net), hands), (number, hands))
                     found += walk.weaving() is not None
         self.assertGreater(found, 100)
+
+    def test_the_first_of_the_shapes_that_are_alike(self):
+        """Those that are there, and the first one of the others; hands without a shape come always."""
+        for had, expected in (((), [1]), ((1,), [1, 2]), ((2,), [1, 2]), ((3,), [1, 3]), ((1, 2), [1, 2, 3]),
+                              ((1, 3), [1, 2, 3]), ((2, 3), [1, 2, 3]), ((1, 2, 3), [1, 2, 3])):
+            for none in (0, 1):
+                bits = sum(1 << shape for shape in had) + none
+                self.assertEqual([own for own in (1, 2, 3) if is_first_alike(own, bits)], expected)
+                self.assertTrue(is_first_alike(0, bits))
 
     def test_a_walk_that_is_too_long(self):
         self.assertFalse(Walk(Net(Rules.careful(), 2), 2).run(20))
