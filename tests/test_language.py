@@ -128,7 +128,7 @@ class LanguageTest(unittest.TestCase):
                 del imported[name]
 
     def test_properties_and_methods_are_no_attributes(self):
-        properties, assigned = {}, {}
+        properties, assigned, called_so = {}, {}, set()
         for path, _, tree in trees():
             for node in ast.walk(tree):
                 if isinstance(node, ast.ClassDef):
@@ -139,9 +139,12 @@ class LanguageTest(unittest.TestCase):
                     for method in methods:
                         if any(getattr(mark, "id", "") == "property" for mark in method.decorator_list):
                             properties[method.name] = node.name
+                        else:
+                            called_so.add(method.name)
                 if isinstance(node, ast.Attribute) and isinstance(node.ctx, ast.Store):
                     assigned[node.attr] = path
         self.assertFalse(set(properties) & set(assigned))
+        self.assertFalse(set(properties) & called_so)
 
     def test_what_goes_through_all_takes_a_list(self):
         for path, _, tree in trees():

@@ -163,11 +163,11 @@ class TurnsTest(unittest.TestCase):
             for note in range(4):
                 one = net.standings.one(("sure", "", key, note))
                 turn, first = turns.first(one)
-                self.assertEqual(turns.standing(turn, one), first)
+                self.assertEqual(turns.turned_one(turn, one), first)
                 expected = (0 if key == 0 else 1, 0 if note == 0 else 1 if note == key or key == 0 else 2)
                 self.assertEqual(net.standings.told(first)[2:], expected)
                 for other in range(6):
-                    self.assertEqual(turns.first(turns.standing(other, one))[1], first)
+                    self.assertEqual(turns.first(turns.turned_one(other, one))[1], first)
 
 
 class StandingsTest(unittest.TestCase):

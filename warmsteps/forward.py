@@ -65,7 +65,7 @@ class Flood:
         found = {}
         for row in self.rows.listed():
             for turn in range(len(self.turns.every)):
-                key = (self.turns.standing(turn, row.stands), self.turns.states(turn, row.many),
+                key = (self.turns.turned_one(turn, row.stands), self.turns.states(turn, row.many),
                        self.turns.turned_few(turn, row.few))
                 found[key] = True
         return list(found)
@@ -112,13 +112,16 @@ class Flood:
     def _learn(self, stands, bit):
         """Find what the next move of a hand in this state does in this standing."""
         number = bit.bit_length() - 1
+        ways = self.net.ways_of(number)
         behind = 0
         changing = []
-        for standing, target in self.net.next_moves(stands, number):
-            if standing == stands:
-                behind = behind | (1 << target)
-            else:
-                changing.append((standing, target))
+        for change, target in ways:
+            if ways[(change, target)] & stands:
+                standing = self.net.standings.behind(stands, change) if change != UNCHANGED else stands
+                if standing == stands:
+                    behind = behind | (1 << target)
+                else:
+                    changing.append((standing, target))
         self._staying[stands][bit] = behind
         if changing:
             self._loud[stands] = self._loud.get(stands, 0) | bit

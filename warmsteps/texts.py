@@ -79,7 +79,7 @@ def read_rules(text):
     for number, line in enumerate(lines):
         if not reader.has_read(line):
             raise BadText(number + 1)
-    rules = reader.rules()
+    rules = reader.all_read()
     if rules is None:
         raise BadText(len(lines) + 1)
     return rules
@@ -107,7 +107,7 @@ class Reader:
             return False
         return self._has_read_move(line[len(indent):].split(" "))
 
-    def rules(self):
+    def all_read(self):
         """The rules of all lines, or None if they are none, or are not in sequence."""
         keys = [key for key, _ in self._courses]
         if self._begun or keys != sorted(set(keys)):

@@ -43,10 +43,10 @@ class Turns:
                     met.append(shape)
             met = met + [shape for shape in self.every[SAME] if shape and shape not in met]
             number = self.every.index(inverse((0, *met)))
-            self._first[one] = (number, self.standing(number, one))
+            self._first[one] = (number, self.turned_one(number, one))
         return self._first[one]
 
-    def standing(self, number, one):
+    def turned_one(self, number, one):
         """One standing with its shapes turned."""
         if number == SAME:
             return one
