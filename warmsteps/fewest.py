@@ -1,10 +1,9 @@
 """The least wrong weavings of so many hands, by the search that suits."""
 
 from warmsteps.backward import Classes, least_of
-from warmsteps.walks import Walk
+from warmsteps.walks import MOST_STEPS, Walk
 
 WALKING = 2
-MOST_STEPS = 1500
 
 
 class Seeker:

@@ -4,12 +4,11 @@ from warmsteps.forward import Flood
 from warmsteps.nets import OUTSIDE, meetings
 from warmsteps.plans import plan_of_fault, plan_of_goal, woven
 from warmsteps.rows import numbers_in, told_rows
-from warmsteps.walks import Walk
+from warmsteps.walks import MOST_STEPS, Walk
 
 FEW_ROWS = 250
 MOST_IN_BREADTH = 1000
 MANY_EVENTS = 20000
-MOST_STEPS = 1500
 
 
 def quick(net):
@@ -123,13 +122,13 @@ def plain_rows(net):
     The rows are tuples of one standing, a set of states, and no few.
     """
     many = net.gather()
-    met = meetings(net.standings, net.start, net.all_ways(), many)
-    if any([met[number] and net.goes_wrong(number) for number in range(many)]):
+    stood = meetings(net.standings, net.start, net.all_ways(), many)
+    if any([stood[number] and net.goes_wrong(number) for number in range(many)]):
         return None
     found = []
-    for bit in numbers_in(met[OUTSIDE]):
+    for bit in numbers_in(stood[OUTSIDE]):
         states = 0
         for number in range(many):
-            states = states | ((met[number] >> bit & 1) << number)
+            states = states | ((stood[number] >> bit & 1) << number)
         found.append((1 << bit, states, ()))
     return found

@@ -4,6 +4,8 @@ from warmsteps.nets import OUTSIDE
 from warmsteps.steps import KEY, NOTE
 
 ALONE = -1
+# Where more is met, the search from what goes wrong is mostly the shorter one.
+MOST_STEPS = 1500
 
 
 class Walk:
