@@ -9,8 +9,8 @@ from tests.making import changed, made
 from tests.samples import LATE, LOOK, hoard, ladder, queue, reread, two_cells
 from warmsteps.backward import Classes, least_of
 from warmsteps.least import least_weaving, shortest
-from warmsteps.nets import Net, Standings
-from warmsteps.rows import told_rows
+from warmsteps.nets import Net, Standings, meetings
+from warmsteps.rows import numbers_in, told_rows
 from warmsteps.rules import Rules
 from warmsteps.settle import MANY_EVENTS, plain_rows, quick, settled_by, settled_slowly
 from warmsteps.turns import SAME, Turns
@@ -168,6 +168,38 @@ class TurnsTest(unittest.TestCase):
                 self.assertEqual(net.standings.told(first)[2:], expected)
                 for other in range(6):
                     self.assertEqual(turns.first(turns.turned_one(other, one))[1], first)
+
+
+class MeetingsTest(unittest.TestCase):
+    def plainly(self, net):
+        """The standings in which a hand can be in each state, if each hand were any number of hands."""
+        met = {(0, plain.beginning(net.for_rules))}
+        ways = [(source, net.standings, found, change, target) for source, found, change, target in net.all_ways()]
+        grown = True
+        while grown:
+            more = set(met)
+            for source, standings, found, change, target in ways:
+                for number, standing in met:
+                    if number == source and standings.one(standing) & found:
+                        after = standings.told(standings.behind(standings.one(standing), change))
+                        more.add((target, after))
+                        more |= {(other, after) for other, known in met if known == standing}
+            grown = more != met
+            met = more
+        return met
+
+    def test_hands_of_which_there_are_any_number(self):
+        for rules, shapes in ((Rules.careful(), 2), (Rules.hasty(), 2), (ladder(3), 1), (queue(), 1), (two_cells(), 1),
+                              (Rules.plain(("add", "tell")), 1)):
+            net = Net(rules, shapes)
+            many = net.gather()
+            expected = self.plainly(net)
+            for widest in (1, 100, 2048):
+                with mock.patch("warmsteps.nets.WIDEST", widest):
+                    met = meetings(net.standings, net.start, net.all_ways(), many)
+                for number, found in enumerate(met):
+                    told = {net.standings.told(1 << bit) for bit in numbers_in(found)}
+                    self.assertEqual(told, {standing for other, standing in expected if other == number})
 
 
 class StandingsTest(unittest.TestCase):

@@ -5,6 +5,8 @@ from warmsteps.steps import KEY, NOTE, beginning
 
 OUTSIDE = 0
 UNCHANGED = 0
+# Integers with more bits than this are not built.
+WIDEST = 2048
 
 
 class Standings:
@@ -314,27 +316,66 @@ def meetings(standings, start, ways, many):
     So it may hold more than can be, and never less. Ways are tuples (state, standings in which a move does this,
     change, state behind), and many is the number of states.
     """
-    width = standings.whole.bit_length()
-    every = repeated(1, width, many * width)
-    met = start << (OUTSIDE * width)
-    before = 0
+    shelf = Shelf(standings, start, many)
+    steps = [(*shelf.spot(source), found, change, *shelf.spot(target)) for source, found, change, target in ways]
     done = [0] * len(ways)
-    changing = {}
-    changed = {}
-    while met != before:
-        before = met
-        for at, (source, found, change, target) in enumerate(ways):
-            doing = (met >> (source * width)) & found
-            if doing != done[at]:
-                met = met | (standings.behind(doing & ~done[at], change) << (target * width))
-                done[at] = doing
+    grows = True
+    while grows:
+        has_moved = shelf.has_moved(steps, done)
+        grows = shelf.has_changed() or has_moved
+    return shelf.told(many)
+
+
+class Shelf:
+    """A set of standings for each state, side by side in integers of no more than so many bits."""
+
+    def __init__(self, standings, start, many):
+        self._standings = standings
+        self._width = standings.whole.bit_length()
+        self._per = max(1, WIDEST // self._width)
+        self._every = repeated(1, self._width, self._per * self._width)
+        self._sets = [0] * (many // self._per + 1)
+        at, shift = self.spot(OUTSIDE)
+        self._sets[at] = start << shift
+        # By change: the standings in which a hand can do it; and by integer, of which standings that was seen to.
+        self._changing = {}
+        self._changed = {}
+
+    def spot(self, number):
+        """Where the set of a state is: the number of the integer, and how far its bits are shifted."""
+        return number // self._per, number % self._per * self._width
+
+    def told(self, many):
+        """The list of the sets of so many states."""
+        found = []
+        for number in range(many):
+            at, shift = self.spot(number)
+            found.append(self._sets[at] >> shift & self._standings.whole)
+        return found
+
+    def has_moved(self, steps, done):
+        """Do all moves once; tell whether a hand could do one in standings in which it was not done yet."""
+        grows = False
+        for number, (at, shift, found, change, at_target, shift_target) in enumerate(steps):
+            doing = self._sets[at] >> shift & found
+            if doing != done[number]:
+                grows = True
+                after = self._standings.behind(doing & ~done[number], change)
+                self._sets[at_target] = self._sets[at_target] | (after << shift_target)
+                done[number] = doing
                 if change != UNCHANGED:
-                    changing[change] = changing.get(change, 0) | doing
-        for change in changing:
-            # What a hand changes, all the others find changed, too.
-            doing = met & (changing[change] * every)
-            new = doing & ~changed.get(change, 0)
-            if new:
-                met = met | standings.behind(new, change, every)
-                changed[change] = doing
-    return [(met >> (number * width)) & standings.whole for number in range(many)]
+                    self._changing[change] = self._changing.get(change, 0) | doing
+        return grows
+
+    def has_changed(self):
+        """What a hand changes, all the others find changed, too; tell whether anything was not changed so yet."""
+        grows = False
+        for change in self._changing:
+            doing = self._changing[change] * self._every
+            for at, found in enumerate(list(self._sets)):
+                new = found & doing & ~self._changed.get((change, at), 0)
+                if new:
+                    grows = True
+                    self._changed[(change, at)] = self._changed.get((change, at), 0) | new
+                    self._sets[at] = found | self._standings.behind(new, change, self._every)
+        return grows
