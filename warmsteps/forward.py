@@ -28,11 +28,7 @@ class Flood:
         self.net = net
         self.turns = Turns(net)
         self._counted = counted
-        # By turn: the goal with its shapes turned.
-        self._goals = [{} for _ in self.turns.every] if goal is not None else []
-        for turn, turned in enumerate(self._goals):
-            for number in goal:
-                turned[self.turns.state(turn, number)] = goal[number]
+        self._goals = [] if goal is None else turned_goals(self.turns, goal)
         # The number of the turn with which the goal is reached in the row that is the fault.
         self.reached = None
         self._harmless = {number: False for turned in self._goals for number in turned}
@@ -206,3 +202,8 @@ class Flood:
             self._harmless[number] = number == OUTSIDE or (not self.net.goes_wrong(number) and all(
                 [change == UNCHANGED and self._is_harmless(target) for change, target in self.net.ways_of(number)]))
         return self._harmless[number]
+
+
+def turned_goals(turns, goal):
+    """By turn: the goal with its shapes turned."""
+    return [{turns.state(turn, number): goal[number] for number in goal} for turn in range(len(turns.every))]

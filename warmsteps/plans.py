@@ -21,7 +21,6 @@ class Trail:
         self.steps = []
         # By how many steps are ahead of what is behind a row.
         self.ends = {}
-        self._end_of = {}
         # By standing: the list of the ends of the rows that stand so.
         self.ends_at = {}
         self.fault = None
