@@ -108,7 +108,7 @@ class Machine:
         if not is_integer(many) or not 0 <= many <= len(self._done):
             raise TooFar(len(self._done))
         for _ in range(many):
-            hand, known, site, standing, is_told, _ = self._done.pop()
+            hand, known, site, standing, is_told = self._done.pop()[:5]
             self._hands[hand] = known
             if site is not None:
                 self._stands[site] = standing
